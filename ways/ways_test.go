@@ -1,0 +1,146 @@
+// Package ways tests how the layers are built: what each stands on, and the language's ways that it leans on.
+package ways
+
+import (
+	"go/ast"
+	"go/build"
+	"go/importer"
+	"go/parser"
+	"go/token"
+	"go/types"
+	"os/exec"
+	"path/filepath"
+	"slices"
+	"strings"
+	"testing"
+)
+
+const module = "mudlark/"
+
+// layers are those built so far, as the document's map and its section Ways have them.
+var layers = []struct {
+	name  string
+	calls []string
+	ways  []string
+}{
+	{"num", []string{"api"}, []string{"range-integer"}},
+	{"str", []string{"api"}, []string{"range-string", "range-function"}},
+}
+
+// library is what a layer may import beside the project's packages.
+var library = []string{
+	"bytes", "cmp", "container/heap", "errors", "iter", "maps", "math", "math/bits", "slices", "sort",
+	"strconv", "strings", "sync", "sync/atomic", "unicode", "unicode/utf8",
+}
+
+// code reads packages of the project, without their tests, and tells the types in them.
+type code struct {
+	fset *token.FileSet
+	info *types.Info
+	std  types.Importer
+}
+
+func newCode() *code {
+	// A test that was built with -trimpath does not know where the library's source is.
+	if build.Default.GOROOT == "" {
+		out, _ := exec.Command("go", "env", "GOROOT").Output()
+		build.Default.GOROOT = strings.TrimSpace(string(out))
+	}
+	fset := token.NewFileSet()
+	info := &types.Info{Types: map[ast.Expr]types.TypeAndValue{}}
+	return &code{fset, info, importer.ForCompiler(fset, "source", nil)}
+}
+
+func (c *code) Import(path string) (*types.Package, error) {
+	name, ok := strings.CutPrefix(path, module)
+	if !ok {
+		return c.std.Import(path)
+	}
+	files, err := c.files(name)
+	if err != nil {
+		return nil, err
+	}
+	config := types.Config{Importer: c}
+	return config.Check(path, c.fset, files, c.info)
+}
+
+func (c *code) files(name string) ([]*ast.File, error) {
+	paths, err := filepath.Glob(filepath.Join("..", name, "*.go"))
+	if err != nil {
+		return nil, err
+	}
+	var l []*ast.File
+	for _, path := range paths {
+		if strings.HasSuffix(path, "_test.go") {
+			continue
+		}
+		f, err := parser.ParseFile(c.fset, path, nil, 0)
+		if err != nil {
+			return nil, err
+		}
+		l = append(l, f)
+	}
+	return l, nil
+}
+
+// ways tells those that a file has.
+func (c *code) ways(f *ast.File) map[string]bool {
+	found := map[string]bool{}
+	ast.Inspect(f, func(n ast.Node) bool {
+		if r, ok := n.(*ast.RangeStmt); ok {
+			found[c.rangeOver(r.X)] = true
+		}
+		return true
+	})
+	return found
+}
+
+func (c *code) rangeOver(x ast.Expr) string {
+	switch u := c.info.Types[x].Type.Underlying().(type) {
+	case *types.Signature:
+		return "range-function"
+	case *types.Basic:
+		if u.Info()&types.IsString != 0 {
+			return "range-string"
+		}
+		return "range-integer"
+	}
+	return "range"
+}
+
+func TestStandsOn(t *testing.T) {
+	for _, layer := range layers {
+		files, err := newCode().files(layer.name)
+		if err != nil || len(files) == 0 {
+			t.Fatalf("%s: %d files, %v", layer.name, len(files), err)
+		}
+		for _, f := range files {
+			for _, i := range f.Imports {
+				path := strings.Trim(i.Path.Value, `"`)
+				name, ok := strings.CutPrefix(path, module)
+				if ok && !slices.Contains(layer.calls, name) || !ok && !slices.Contains(library, path) {
+					t.Errorf("%s imports %s", layer.name, path)
+				}
+			}
+		}
+	}
+}
+
+func TestWays(t *testing.T) {
+	for _, layer := range layers {
+		c := newCode()
+		files, err := c.files(layer.name)
+		if err != nil {
+			t.Fatal(err)
+		}
+		config := types.Config{Importer: c}
+		if _, err := config.Check(module+layer.name, c.fset, files, c.info); err != nil {
+			t.Fatal(err)
+		}
+		for _, way := range layer.ways {
+			if !slices.ContainsFunc(files, func(f *ast.File) bool { return c.ways(f)[way] }) {
+				t.Errorf("%s has no %s", layer.name, way)
+			}
+		}
+	}
+}
