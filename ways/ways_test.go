@@ -25,6 +25,7 @@ var layers = []struct {
 }{
 	{"num", []string{"api"}, []string{"range-integer"}},
 	{"str", []string{"api"}, []string{"range-string", "range-function"}},
+	{"pax", []string{"api"}, []string{"map", "label"}},
 }
 
 // library is what a layer may import beside the project's packages.
@@ -87,8 +88,13 @@ func (c *code) files(name string) ([]*ast.File, error) {
 func (c *code) ways(f *ast.File) map[string]bool {
 	found := map[string]bool{}
 	ast.Inspect(f, func(n ast.Node) bool {
-		if r, ok := n.(*ast.RangeStmt); ok {
-			found[c.rangeOver(r.X)] = true
+		switch n := n.(type) {
+		case *ast.RangeStmt:
+			found[c.rangeOver(n.X)] = true
+		case *ast.MapType:
+			found["map"] = true
+		case *ast.LabeledStmt:
+			found["label"] = true
 		}
 		return true
 	})
