@@ -26,6 +26,7 @@ var layers = []struct {
 	{"num", []string{"api"}, []string{"range-integer"}},
 	{"str", []string{"api"}, []string{"range-string", "range-function"}},
 	{"pax", []string{"api"}, []string{"map", "label"}},
+	{"stamp", []string{"api"}, []string{"range-string", "struct-compared"}},
 }
 
 // library is what a layer may import beside the project's packages.
@@ -95,6 +96,8 @@ func (c *code) ways(f *ast.File) map[string]bool {
 			found["map"] = true
 		case *ast.LabeledStmt:
 			found["label"] = true
+		case *ast.BinaryExpr:
+			found[c.compared(n)] = true
 		}
 		return true
 	})
@@ -112,6 +115,16 @@ func (c *code) rangeOver(x ast.Expr) string {
 		return "range-integer"
 	}
 	return "range"
+}
+
+func (c *code) compared(n *ast.BinaryExpr) string {
+	if n.Op != token.EQL && n.Op != token.NEQ {
+		return "reckoned"
+	}
+	if _, ok := c.info.Types[n.X].Type.Underlying().(*types.Struct); ok {
+		return "struct-compared"
+	}
+	return "compared"
 }
 
 func TestStandsOn(t *testing.T) {
