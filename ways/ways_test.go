@@ -27,6 +27,7 @@ var layers = []struct {
 	{"str", []string{"api"}, []string{"range-string", "range-function"}},
 	{"pax", []string{"api"}, []string{"map", "label"}},
 	{"stamp", []string{"api"}, []string{"range-string", "struct-compared"}},
+	{"sum", []string{"api", "num"}, []string{"closure", "array", "array-compared"}},
 }
 
 // library is what a layer may import beside the project's packages.
@@ -96,6 +97,10 @@ func (c *code) ways(f *ast.File) map[string]bool {
 			found["map"] = true
 		case *ast.LabeledStmt:
 			found["label"] = true
+		case *ast.FuncLit:
+			found["closure"] = true
+		case *ast.ArrayType:
+			found[size(n)] = true
 		case *ast.BinaryExpr:
 			found[c.compared(n)] = true
 		}
@@ -121,10 +126,21 @@ func (c *code) compared(n *ast.BinaryExpr) string {
 	if n.Op != token.EQL && n.Op != token.NEQ {
 		return "reckoned"
 	}
-	if _, ok := c.info.Types[n.X].Type.Underlying().(*types.Struct); ok {
+	switch c.info.Types[n.X].Type.Underlying().(type) {
+	case *types.Struct:
 		return "struct-compared"
+	case *types.Array:
+		return "array-compared"
 	}
 	return "compared"
+}
+
+// size tells an array from a slice, that has none.
+func size(n *ast.ArrayType) string {
+	if n.Len == nil {
+		return "slice"
+	}
+	return "array"
 }
 
 func TestStandsOn(t *testing.T) {
