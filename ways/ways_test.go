@@ -28,6 +28,7 @@ var layers = []struct {
 	{"pax", []string{"api"}, []string{"map", "label"}},
 	{"stamp", []string{"api"}, []string{"range-string", "struct-compared"}},
 	{"sum", []string{"api", "num"}, []string{"closure", "array", "array-compared"}},
+	{"medium", []string{"api"}, []string{"range-function", "variadic"}},
 }
 
 // library is what a layer may import beside the project's packages.
@@ -99,6 +100,8 @@ func (c *code) ways(f *ast.File) map[string]bool {
 			found["label"] = true
 		case *ast.FuncLit:
 			found["closure"] = true
+		case *ast.Ellipsis:
+			found[dots(n)] = true
 		case *ast.ArrayType:
 			found[size(n)] = true
 		case *ast.BinaryExpr:
@@ -141,6 +144,14 @@ func size(n *ast.ArrayType) string {
 		return "slice"
 	}
 	return "array"
+}
+
+// dots tells those of a variadic function from those of an array's length.
+func dots(n *ast.Ellipsis) string {
+	if n.Elt == nil {
+		return "counted"
+	}
+	return "variadic"
 }
 
 func TestStandsOn(t *testing.T) {
