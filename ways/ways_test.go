@@ -29,6 +29,7 @@ var layers = []struct {
 	{"stamp", []string{"api"}, []string{"range-string", "struct-compared"}},
 	{"sum", []string{"api", "num"}, []string{"closure", "array", "array-compared"}},
 	{"medium", []string{"api"}, []string{"range-function", "variadic"}},
+	{"sink", []string{"api"}, []string{"clone", "three-index"}},
 }
 
 // library is what a layer may import beside the project's packages.
@@ -106,6 +107,10 @@ func (c *code) ways(f *ast.File) map[string]bool {
 			found[size(n)] = true
 		case *ast.BinaryExpr:
 			found[c.compared(n)] = true
+		case *ast.SliceExpr:
+			found[indices(n)] = true
+		case *ast.CallExpr:
+			found[called(n)] = true
 		}
 		return true
 	})
@@ -144,6 +149,23 @@ func size(n *ast.ArrayType) string {
 		return "slice"
 	}
 	return "array"
+}
+
+// indices tells a cut that also says how far its memory goes.
+func indices(n *ast.SliceExpr) string {
+	if n.Slice3 {
+		return "three-index"
+	}
+	return "cut"
+}
+
+// called tells a call of the library's that makes new memory of a list.
+func called(n *ast.CallExpr) string {
+	switch types.ExprString(n.Fun) {
+	case "slices.Clone", "bytes.Clone":
+		return "clone"
+	}
+	return "call"
 }
 
 // dots tells those of a variadic function from those of an array's length.
