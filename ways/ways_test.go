@@ -30,6 +30,7 @@ var layers = []struct {
 	{"sum", []string{"api", "num"}, []string{"closure", "array", "array-compared"}},
 	{"medium", []string{"api"}, []string{"range-function", "variadic"}},
 	{"sink", []string{"api"}, []string{"clone", "three-index"}},
+	{"head", []string{"api", "num", "str", "sum"}, []string{"array", "pointer", "table", "panic", "defer", "recover", "assertion"}},
 }
 
 // library is what a layer may import beside the project's packages.
@@ -111,6 +112,14 @@ func (c *code) ways(f *ast.File) map[string]bool {
 			found[indices(n)] = true
 		case *ast.CallExpr:
 			found[called(n)] = true
+		case *ast.DeferStmt:
+			found["defer"] = true
+		case *ast.TypeAssertExpr:
+			found[asserted(n)] = true
+		case *ast.UnaryExpr:
+			found[taken(n)] = true
+		case *ast.File:
+			found[tables(n)] = true
 		}
 		return true
 	})
@@ -159,13 +168,49 @@ func indices(n *ast.SliceExpr) string {
 	return "cut"
 }
 
-// called tells a call of the library's that makes new memory of a list.
+// called tells a call of the library's that makes new memory of a list, and those that stop a call, and go on.
 func called(n *ast.CallExpr) string {
-	switch types.ExprString(n.Fun) {
+	switch name := types.ExprString(n.Fun); name {
 	case "slices.Clone", "bytes.Clone":
 		return "clone"
+	case "panic", "recover":
+		return name
 	}
 	return "call"
+}
+
+// asserted tells an assertion from the head of a type switch, that names no type.
+func asserted(n *ast.TypeAssertExpr) string {
+	if n.Type == nil {
+		return "switched"
+	}
+	return "assertion"
+}
+
+// taken tells where something is from what is reckoned of it.
+func taken(n *ast.UnaryExpr) string {
+	if n.Op == token.AND {
+		return "pointer"
+	}
+	return "reckoned"
+}
+
+// tables tells whether a file has a list at its top that is written out where it is declared.
+func tables(f *ast.File) string {
+	for _, d := range f.Decls {
+		g, ok := d.(*ast.GenDecl)
+		if !ok || g.Tok != token.VAR {
+			continue
+		}
+		for _, s := range g.Specs {
+			for _, v := range s.(*ast.ValueSpec).Values {
+				if _, ok := v.(*ast.CompositeLit); ok {
+					return "table"
+				}
+			}
+		}
+	}
+	return "file"
 }
 
 // dots tells those of a variadic function from those of an array's length.
