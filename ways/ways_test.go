@@ -31,6 +31,7 @@ var layers = []struct {
 	{"medium", []string{"api"}, []string{"range-function", "variadic"}},
 	{"sink", []string{"api"}, []string{"clone", "three-index"}},
 	{"head", []string{"api", "num", "str", "sum"}, []string{"array", "pointer", "table", "panic", "defer", "recover", "assertion"}},
+	{"sparse", []string{"api", "head"}, []string{"label", "range-function"}},
 }
 
 // library is what a layer may import beside the project's packages.
@@ -41,9 +42,10 @@ var library = []string{
 
 // code reads packages of the project, without their tests, and tells the types in them.
 type code struct {
-	fset *token.FileSet
-	info *types.Info
-	std  types.Importer
+	fset  *token.FileSet
+	info  *types.Info
+	std   types.Importer
+	packs map[string]*types.Package
 }
 
 func newCode() *code {
@@ -54,7 +56,7 @@ func newCode() *code {
 	}
 	fset := token.NewFileSet()
 	info := &types.Info{Types: map[ast.Expr]types.TypeAndValue{}}
-	return &code{fset, info, importer.ForCompiler(fset, "source", nil)}
+	return &code{fset, info, importer.ForCompiler(fset, "source", nil), map[string]*types.Package{}}
 }
 
 func (c *code) Import(path string) (*types.Package, error) {
@@ -62,12 +64,21 @@ func (c *code) Import(path string) (*types.Package, error) {
 	if !ok {
 		return c.std.Import(path)
 	}
+	// Read twice, a package would have each of its types twice, and those are not the same.
+	if p := c.packs[path]; p != nil {
+		return p, nil
+	}
 	files, err := c.files(name)
 	if err != nil {
 		return nil, err
 	}
 	config := types.Config{Importer: c}
-	return config.Check(path, c.fset, files, c.info)
+	p, err := config.Check(path, c.fset, files, c.info)
+	if err != nil {
+		return nil, err
+	}
+	c.packs[path] = p
+	return p, nil
 }
 
 func (c *code) files(name string) ([]*ast.File, error) {
