@@ -32,6 +32,7 @@ var layers = []struct {
 	{"sink", []string{"api"}, []string{"clone", "three-index"}},
 	{"head", []string{"api", "num", "str", "sum"}, []string{"array", "pointer", "table", "panic", "defer", "recover", "assertion"}},
 	{"sparse", []string{"api", "head"}, []string{"label", "range-function"}},
+	{"meta", []string{"api", "num", "str", "pax", "stamp", "sparse"}, []string{"closure", "pointer", "array"}},
 }
 
 // library is what a layer may import beside the project's packages.
