@@ -33,6 +33,7 @@ var layers = []struct {
 	{"head", []string{"api", "num", "str", "sum"}, []string{"array", "pointer", "table", "panic", "defer", "recover", "assertion"}},
 	{"sparse", []string{"api", "head"}, []string{"label", "range-function"}},
 	{"meta", []string{"api", "num", "str", "pax", "stamp", "sparse"}, []string{"closure", "pointer", "array"}},
+	{"group", []string{"api", "str", "pax", "medium", "head", "sparse", "meta"}, []string{"map", "method-value", "errors-as"}},
 }
 
 // library is what a layer may import beside the project's packages.
@@ -56,7 +57,7 @@ func newCode() *code {
 		build.Default.GOROOT = strings.TrimSpace(string(out))
 	}
 	fset := token.NewFileSet()
-	info := &types.Info{Types: map[ast.Expr]types.TypeAndValue{}}
+	info := &types.Info{Types: map[ast.Expr]types.TypeAndValue{}, Selections: map[*ast.SelectorExpr]*types.Selection{}}
 	return &code{fset, info, importer.ForCompiler(fset, "source", nil), map[string]*types.Package{}}
 }
 
@@ -104,6 +105,7 @@ func (c *code) files(name string) ([]*ast.File, error) {
 // ways tells those that a file has.
 func (c *code) ways(f *ast.File) map[string]bool {
 	found := map[string]bool{}
+	calls := map[ast.Expr]bool{}
 	ast.Inspect(f, func(n ast.Node) bool {
 		switch n := n.(type) {
 		case *ast.RangeStmt:
@@ -124,6 +126,12 @@ func (c *code) ways(f *ast.File) map[string]bool {
 			found[indices(n)] = true
 		case *ast.CallExpr:
 			found[called(n)] = true
+			calls[n.Fun] = true
+		case *ast.SelectorExpr:
+			// A method that is called is none that is handed on; the call is seen ahead of it.
+			if !calls[n] {
+				found[c.selected(n)] = true
+			}
 		case *ast.DeferStmt:
 			found["defer"] = true
 		case *ast.TypeAssertExpr:
@@ -164,6 +172,14 @@ func (c *code) compared(n *ast.BinaryExpr) string {
 	return "compared"
 }
 
+// selected tells a method with what it is asked of from a field, and from a name of another package.
+func (c *code) selected(n *ast.SelectorExpr) string {
+	if s := c.info.Selections[n]; s != nil && s.Kind() == types.MethodVal {
+		return "method-value"
+	}
+	return "selected"
+}
+
 // size tells an array from a slice, that has none.
 func size(n *ast.ArrayType) string {
 	if n.Len == nil {
@@ -180,11 +196,13 @@ func indices(n *ast.SliceExpr) string {
 	return "cut"
 }
 
-// called tells a call of the library's that makes new memory of a list, and those that stop a call, and go on.
+// called tells a call of the library's that makes new memory of a list, one that finds an error, and those that stop a call, and go on.
 func called(n *ast.CallExpr) string {
 	switch name := types.ExprString(n.Fun); name {
 	case "slices.Clone", "bytes.Clone":
 		return "clone"
+	case "errors.As":
+		return "errors-as"
 	case "panic", "recover":
 		return name
 	}
