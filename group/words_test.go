@@ -17,6 +17,7 @@ import (
 	"mudlark/head"
 	"mudlark/meta"
 	"mudlark/pax"
+	"mudlark/sample"
 	holes "mudlark/sparse"
 )
 
@@ -156,75 +157,62 @@ func bytesByWords(x api.Image, g api.Group) []byte {
 	return b
 }
 
-// draw is a number below n, the next of a row that is the same each time.
-type draw uint64
-
-func (d *draw) below(n int) int {
-	*d = *d*6364136223846793005 + 1442695040888963407
-	return int(uint64(*d)>>33) % n
-}
-
-// one is a thing of a list.
-func one[T any](d *draw, l ...T) T {
-	return l[d.below(len(l))]
-}
-
 // someRecs are records, mostly of what is known.
-func someRecs(d *draw) []api.Rec {
+func someRecs(d *sample.Draw) []api.Rec {
 	var l []api.Rec
-	for range d.below(4) {
-		l = append(l, recs(one(d, "path", "linkpath", "uid", "size", "size", "mtime", "k", "z", "uname"), one(d, "0", "1", "600", "5", "", "7", "1025", "x"))...)
+	for range d.Below(4) {
+		l = append(l, sample.Recs(sample.One(d, "path", "linkpath", "uid", "size", "size", "mtime", "k", "z", "uname"), sample.One(d, "0", "1", "600", "5", "", "7", "1025", "x"))...)
 	}
 	return l
 }
 
 // somePieces are blocks that may stand in an archive, or what is left of them.
-func somePieces(d *draw) []byte {
-	switch d.below(12) {
+func somePieces(d *sample.Draw) []byte {
+	switch d.Below(12) {
 	case 0, 1, 2:
-		return extension('x', one(d, lines(someRecs(d)), lines(someRecs(d)), lines(recs("k", letters(600))), "x", lines(recs("GNU.sparse.map", "0,5,10,2", "GNU.sparse.size", "12", "size", "7"))))
+		return sample.Extension('x', sample.One(d, sample.Lines(someRecs(d)), sample.Lines(someRecs(d)), sample.Lines(sample.Recs("k", sample.Letters(600))), "x", sample.Lines(sample.Recs("GNU.sparse.map", "0,5,10,2", "GNU.sparse.size", "12", "size", "7"))))
 	case 3:
-		return extension('L', one(d, "n", letters(120), letters(700), "d/", "d/n\x00x", ""))
+		return sample.Extension('L', sample.One(d, "n", sample.Letters(120), sample.Letters(700), "d/", "d/n\x00x", ""))
 	case 4:
-		return extension('K', one(d, "n", letters(120), letters(700), "to\x00", ""))
+		return sample.Extension('K', sample.One(d, "n", sample.Letters(120), sample.Letters(700), "to\x00", ""))
 	case 5:
-		return extension('g', one(d, lines(someRecs(d)), lines(recs("k", letters(600))), "", "x"))
+		return sample.Extension('g', sample.One(d, sample.Lines(someRecs(d)), sample.Lines(sample.Recs("k", sample.Letters(600))), "", "x"))
 	case 6, 7:
-		return mainBlock(one(d, []byte("00001234567")...), one(d, "a", "a", "d/", ""), one(d, 0, 3, 512, 600, 1<<40))
+		return sample.Main(sample.One(d, []byte("00001234567")...), sample.One(d, "a", "a", "d/", ""), sample.One(d, 0, 3, 512, 600, 1<<40))
 	case 8:
-		return mainBlock(one(d, []byte("xLKg")...), "cut", one(d, 1, 512, 600, 5000, api.MaxExt, api.MaxExt+1))
+		return sample.Main(sample.One(d, []byte("xLKg")...), "cut", sample.One(d, 1, 512, 600, 5000, api.MaxExt, api.MaxExt+1))
 	case 9, 10:
-		b := holedBlock(2, 50, true, parts(0, 1)...)
-		for range d.below(3) {
-			b = append(b, further(1, one(d, nil, parts(3, 0), parts(5, 1))...)...)
+		b := sample.Holed(2, 50, true, sample.Parts(0, 1)...)
+		for range d.Below(3) {
+			b = append(b, sample.Further(1, sample.One(d, nil, sample.Parts(3, 0), sample.Parts(5, 1))...)...)
 		}
-		return append(b, further(0, one(d, nil, parts(7, 1), parts(9, 2))...)...)
+		return append(b, sample.Further(0, sample.One(d, nil, sample.Parts(7, 1), sample.Parts(9, 2))...)...)
 	}
-	return one(d, make([]byte, 512), some(512), unsealed(mainBlock('0', "a", 0)), changed(mainBlock('x', "a", 6), 156, "N"))
+	return sample.One(d, make([]byte, 512), sample.Some(512), sample.Unsealed(sample.Main('0', "a", 0)), sample.Changed(sample.Main('x', "a", 6), 156, "N"))
 }
 
 // someImage is one of such pieces, cut off somewhere, with blocks that are bad.
-func someImage(d *draw) api.Image {
+func someImage(d *sample.Draw) api.Image {
 	var x api.Image
-	for range 1 + d.below(6) {
+	for range 1 + d.Below(6) {
 		x.Bytes = append(x.Bytes, somePieces(d)...)
 	}
-	if d.below(4) == 0 {
-		x = cut(x, d.below(1200)%len(x.Bytes))
+	if d.Below(4) == 0 {
+		x = sample.Cut(x, d.Below(1200)%len(x.Bytes))
 	}
-	for range d.below(3) * d.below(2) {
-		x.Bad = append(x.Bad, d.below(len(x.Bytes)/512+3)-1)
+	for range d.Below(3) * d.Below(2) {
+		x.Bad = append(x.Bad, d.Below(len(x.Bytes)/512+3)-1)
 	}
 	return x
 }
 
 func TestReadAnythingByWords(t *testing.T) {
-	d := draw(11)
+	d := sample.Draw(11)
 	told, globalTold := map[api.Errno]int{}, map[api.Errno]int{}
 	for range 20000 {
 		x := someImage(&d)
 		for i := -1; i <= len(x.Bytes)/512+1; i++ {
-			global, own := one(&d, nil, someRecs(&d)), one(&d, nil, someRecs(&d))
+			global, own := sample.One(&d, nil, someRecs(&d)), sample.One(&d, nil, someRecs(&d))
 			g, e := Read(x, i, global, own)
 			want, err := readByWords(x, i, global, own)
 			if !reflect.DeepEqual(plain(g), plain(want)) || e != err {
@@ -256,49 +244,19 @@ func TestReadAnythingByWords(t *testing.T) {
 }
 
 func TestPayloadByWords(t *testing.T) {
-	d := draw(3)
+	d := sample.Draw(3)
 	for range 20000 {
-		x := image(some(d.below(3000)))
-		for range d.below(4) {
-			x.Bad = append(x.Bad, d.below(8)-1)
+		x := sample.Image(sample.Some(d.Below(3000)))
+		for range d.Below(4) {
+			x.Bad = append(x.Bad, d.Below(8)-1)
 		}
-		i, size := one(&d, -1, 0, 0, 1, 2, 5, -2), one(&d, d.below(3000), d.below(600), 512*d.below(5), -d.below(9), api.MaxExt, api.MaxExt+1)
+		i, size := sample.One(&d, -1, 0, 0, 1, 2, 5, -2), sample.One(&d, d.Below(3000), d.Below(600), 512*d.Below(5), -d.Below(9), api.MaxExt, api.MaxExt+1)
 		b, behind, e := Payload(x, i, api.Header{Size: size})
 		want, wantBehind, err := payloadByWords(x, i, api.Header{Size: size})
 		if !bytes.Equal(b, want) || behind != wantBehind || e != err {
 			t.Fatalf("Payload at %d, of %d, of %d bytes, bad %v = %d bytes, %d, %d; want %d, %d, %d", i, size, len(x.Bytes), x.Bad, len(b), behind, e, len(want), wantBehind, err)
 		}
 	}
-}
-
-// someMeta is what is known of a member that may be.
-func someMeta(d *draw) api.Meta {
-	m := api.Meta{
-		Kind: one(d, []byte("0000123456")...), Name: one(d, "a", "d/a", letters(100), letters(90)+"/"+letters(90), letters(300), letters(4096)),
-		Mode: one(d, 0, 0o644, 2097151), Uid: one(d, 0, 1000, 2097151, 2097152, 1<<62), Gid: one(d, 0, 5, 1<<40),
-		User: one(d, "", "u", letters(33), "é"), Group: one(d, "", "g", letters(4096)),
-		Mtime: one(d, api.Time{}, api.Time{S: 7}, api.Time{S: 1 << 40}, api.Time{S: -1}, api.Time{S: 5, N: 5}),
-		Extra: one(d, nil, recs("k", "v"), recs("A", "1", "zz", letters(5000))),
-	}
-	switch m.Kind {
-	case '0':
-		m.Size = one(d, 0, 1, 511, 512, 513, 3000)
-		m.Real = m.Size
-		if d.below(3) == 0 {
-			m.Holes, m.Real = true, m.Size+50
-			if m.Size > 0 {
-				m.Parts = parts(7, 1)
-			}
-			if m.Size > 1 {
-				m.Parts = append(m.Parts, api.Part{At: 9, Len: m.Size - 1})
-			}
-		}
-	case '1', '2':
-		m.Link = one(d, "l", "../l", letters(101), letters(4096))
-	case '3', '4':
-		m.Major, m.Minor = one(d, 0, 4, 2097151), one(d, 0, 64)
-	}
-	return m
 }
 
 // written is a group as a writer lays it, but that the long texts may be in extensions of their own.
@@ -312,26 +270,26 @@ func written(t *testing.T, m api.Meta, isLong bool) []byte {
 	if isLong {
 		for key, kind := range map[string]byte{"path": 'L', "linkpath": 'K'} {
 			if value, ok := pax.Find(l, key); ok {
-				b = append(b, extension(kind, value+"\x00")...)
+				b = append(b, sample.Extension(kind, value+"\x00")...)
 				l = slices.DeleteFunc(l, func(r api.Rec) bool { return r.Key == key })
 			}
 		}
 	}
 	if len(l) > 0 {
-		b = append(b, extension('x', lines(l))...)
+		b = append(b, sample.Extension('x', sample.Lines(l))...)
 	}
-	return append(b, laid(h)...)
+	return append(b, sample.Laid(h)...)
 }
 
 func TestWhatWasWrittenIsRead(t *testing.T) {
-	d := draw(5)
+	d := sample.Draw(5)
 	for range 5000 {
-		m := someMeta(&d)
-		b := written(t, m, d.below(2) == 0)
-		ahead, data := 512*d.below(3), some(m.Size)
+		m := sample.Meta(&d)
+		b := written(t, m, d.Below(2) == 0)
+		ahead, data := 512*d.Below(3), sample.Some(m.Size)
 		at, count, behind := ahead/512, (m.Size+511)/512, (ahead+len(b))/512
-		x := image(some(ahead), b, filled(data), some(d.below(600)))
-		if d.below(2) == 0 {
+		x := sample.Image(sample.Some(ahead), b, sample.Filled(data), sample.Some(d.Below(600)))
+		if d.Below(2) == 0 {
 			// Of a member whose headers are all there, all is known; its bytes are those that were read.
 			for i := range at {
 				x.Bad = append(x.Bad, i)
@@ -344,7 +302,7 @@ func TestWhatWasWrittenIsRead(t *testing.T) {
 			t.Fatalf("Bytes of %+v: %d; want %d", g, len(got), len(data))
 		}
 		for i := at; i < behind; i++ {
-			readsNone(t, "a header that is bad", spoilt(x, i), at, api.ErrBad)
+			readsNone(t, "a header that is bad", sample.Spoilt(x, i), at, api.ErrBad)
 		}
 	}
 }
@@ -353,11 +311,11 @@ func TestWhatWasWrittenIsRead(t *testing.T) {
 func others() []tar.Header {
 	return []tar.Header{
 		{Typeflag: tar.TypeReg, Name: "a", Size: 7, Mode: 0o644, ModTime: time.Unix(1, 0)},
-		{Typeflag: tar.TypeReg, Name: letters(250), Uname: "u", Size: 1024, ModTime: time.Unix(1<<34, 0)},
+		{Typeflag: tar.TypeReg, Name: sample.Letters(250), Uname: "u", Size: 1024, ModTime: time.Unix(1<<34, 0)},
 		{Typeflag: tar.TypeReg, Name: "empty", Uid: 3000000, Gid: 1 << 40, ModTime: time.Unix(0, 0)},
 		{Typeflag: tar.TypeDir, Name: strings.Repeat("d/", 400), Mode: 0o755, ModTime: time.Unix(-1, 0)},
-		{Typeflag: tar.TypeSymlink, Name: letters(600), Linkname: letters(200), ModTime: time.Unix(5, 0)},
-		{Typeflag: tar.TypeLink, Name: "h", Linkname: letters(600), ModTime: time.Unix(5, 0)},
+		{Typeflag: tar.TypeSymlink, Name: sample.Letters(600), Linkname: sample.Letters(200), ModTime: time.Unix(5, 0)},
+		{Typeflag: tar.TypeLink, Name: "h", Linkname: sample.Letters(600), ModTime: time.Unix(5, 0)},
 		{Typeflag: tar.TypeChar, Name: "c", Devmajor: 4, Devminor: 64, ModTime: time.Unix(8589934591, 0)},
 		{Typeflag: tar.TypeBlock, Name: "b", Devmajor: 2097151, ModTime: time.Unix(0, 0)},
 		{Typeflag: tar.TypeFifo, Name: "é", Mode: 0o7777, ModTime: time.Unix(0, 0)},
@@ -383,17 +341,17 @@ func TestArchivesOfOthers(t *testing.T) {
 			if err := w.WriteHeader(&h); err != nil {
 				t.Fatal(err)
 			}
-			w.Write(some(int(h.Size)))
+			w.Write(sample.Some(int(h.Size)))
 		}
 		w.Close()
-		x := image(out.Bytes())
+		x := sample.Image(out.Bytes())
 		at := 0
 		for _, h := range others() {
 			g, e := Read(x, at, nil, nil)
 			if m := knownOf(h); !meta.Same(g.Meta, m) || g.At != at || e != api.OK {
 				t.Fatalf("%v: Read at %d = %+v, %d; want %+v", format, at, g, e, m)
 			}
-			if b := Bytes(x, g); !bytes.Equal(b, some(int(h.Size))) {
+			if b := Bytes(x, g); !bytes.Equal(b, sample.Some(int(h.Size))) {
 				t.Errorf("%v: Bytes of %s: %d", format, h.Name, len(b))
 			}
 			at = g.Next
@@ -408,15 +366,15 @@ func TestArchivesOfOthers(t *testing.T) {
 func TestGlobalsOfOthers(t *testing.T) {
 	var out bytes.Buffer
 	w := tar.NewWriter(&out)
-	if err := w.WriteHeader(&tar.Header{Typeflag: tar.TypeXGlobalHeader, Name: "g", PAXRecords: map[string]string{"uid": "7", "k": letters(600)}}); err != nil {
+	if err := w.WriteHeader(&tar.Header{Typeflag: tar.TypeXGlobalHeader, Name: "g", PAXRecords: map[string]string{"uid": "7", "k": sample.Letters(600)}}); err != nil {
 		t.Fatal(err)
 	}
 	w.WriteHeader(&tar.Header{Typeflag: tar.TypeReg, Name: "a", ModTime: time.Unix(0, 0)})
-	x := image(out.Bytes())
-	l := recs("k", letters(600), "uid", "7")
+	x := sample.Image(out.Bytes())
+	l := sample.Recs("k", sample.Letters(600), "uid", "7")
 	globals(t, "others'", x, 0, l, 3)
 	readsNone(t, "others'", x, 0, api.ErrOrder)
-	want := grouped(3, 3, 4, 4, api.Meta{Name: "a", Kind: '0', Uid: 7, Extra: recs("k", letters(600))})
+	want := grouped(3, 3, 4, 4, api.Meta{Name: "a", Kind: '0', Uid: 7, Extra: sample.Recs("k", sample.Letters(600))})
 	want.Global = l
 	reads(t, "others'", x, 3, l, nil, want)
 }
@@ -432,15 +390,15 @@ func TestHolesOfOthers(t *testing.T) {
 		for _, p := range l {
 			size += p.Len
 		}
-		b := holedBlock(size, 3000, count > 4, l[:min(count, 4)]...)
+		b := sample.Holed(size, 3000, count > 4, l[:min(count, 4)]...)
 		for left := l[min(count, 4):]; len(left) > 0; left = left[min(len(left), 21):] {
 			goesOn := byte(0)
 			if len(left) > 21 {
 				goesOn = 1
 			}
-			b = append(b, further(goesOn, left[:min(len(left), 21)]...)...)
+			b = append(b, sample.Further(goesOn, left[:min(len(left), 21)]...)...)
 		}
-		x := image(b, filled(some(size)), make([]byte, 1024))
+		x := sample.Image(b, sample.Filled(sample.Some(size)), make([]byte, 1024))
 		r := tar.NewReader(bytes.NewReader(x.Bytes))
 		if _, err := r.Next(); err != nil {
 			t.Fatal(err)
@@ -455,12 +413,12 @@ func TestHolesOfOthers(t *testing.T) {
 }
 
 func TestNilIsEmpty(t *testing.T) {
-	b := slices.Concat(extension('x', "6 a=b\n"), mainBlock('0', "a", 3), filled(some(3)))
+	b := slices.Concat(sample.Extension('x', "6 a=b\n"), sample.Main('0', "a", 3), sample.Filled(sample.Some(3)))
 	want := grouped(0, 2, 3, 4, file("a", 3))
-	want.Meta.Extra = recs("a", "b")
+	want.Meta.Extra = sample.Recs("a", "b")
 	for _, bad := range [][]int{nil, {}} {
 		for _, l := range [][]api.Rec{nil, {}} {
-			reads(t, "nil and empty", spoilt(image(b), bad...), 0, l, l, want)
+			reads(t, "nil and empty", sample.Spoilt(sample.Image(b), bad...), 0, l, l, want)
 		}
 		x := api.Image{Bytes: []byte{}, Bad: bad}
 		readsNone(t, "empty", x, 0, api.ErrEnd)
@@ -471,16 +429,16 @@ func TestNilIsEmpty(t *testing.T) {
 
 func TestWhatIsHandedInStays(t *testing.T) {
 	// Behind the lengths stand bytes, numbers and records that would count if they were read.
-	b := slices.Concat(extension('x', "9 uid=30\n"), mainBlock('0', "a", 1000), some(1000), some(512))
+	b := slices.Concat(sample.Extension('x', "9 uid=30\n"), sample.Main('0', "a", 1000), sample.Some(1000), sample.Some(512))
 	bad := []int{7, 3, 2, 0}
-	l := recs("k", "1", "uid", "2", "k", "", "uid", "x")
+	l := sample.Recs("k", "1", "uid", "2", "k", "", "uid", "x")
 	keep, keepBad, keepRecs := bytes.Clone(b), slices.Clone(bad), slices.Clone(l)
 	x := api.Image{Bytes: b[:1536+700], Bad: bad[:2]}
 	want := grouped(0, 2, 3, 5, file("a", 1000))
-	want.Meta.Uid, want.Meta.Extra, want.Global = 30, recs("k", "1"), recs("k", "1", "uid", "2")
+	want.Meta.Uid, want.Meta.Extra, want.Global = 30, sample.Recs("k", "1"), sample.Recs("k", "1", "uid", "2")
 	reads(t, "with others behind", x, 0, l[:2], l[:1], want)
 	g, _ := Read(x, 0, l[:2], l[:1])
-	if got := Bytes(x, g); !bytes.Equal(got, some(1000)[:700]) {
+	if got := Bytes(x, g); !bytes.Equal(got, sample.Some(1000)[:700]) {
 		t.Errorf("Bytes: %d", len(got))
 	}
 	payloads(t, "with others behind", x, 0, 9, []byte("9 uid=30\n"), 2)
@@ -495,9 +453,9 @@ func TestWhatIsHandedInStays(t *testing.T) {
 }
 
 func TestWhatComesOutIsNew(t *testing.T) {
-	x := image(extension('g', lines(recs("a", "1", "b", "2"))), extension('x', "6 c=3\n"), holedBlock(3, 9, false, parts(0, 1, 5, 2)...), filled(some(3)))
-	l := recs("uid", "7")
-	global := recs("g", "1", "h", "2")
+	x := sample.Image(sample.Extension('g', sample.Lines(sample.Recs("a", "1", "b", "2"))), sample.Extension('x', "6 c=3\n"), sample.Holed(3, 9, false, sample.Parts(0, 1, 5, 2)...), sample.Filled(sample.Some(3)))
+	l := sample.Recs("uid", "7")
+	global := sample.Recs("g", "1", "h", "2")
 	first, _ := Read(x, 2, global, l)
 	second, _ := Read(x, 2, global, l)
 	firstBytes, secondBytes := Bytes(x, second), Bytes(x, second)
@@ -517,19 +475,19 @@ func TestWhatComesOutIsNew(t *testing.T) {
 			r[i] = api.Rec{Key: "spoilt", Value: "spoilt"}
 		}
 	}
-	want := grouped(2, 4, 5, 6, holed(3, 9, parts(0, 1, 5, 2)))
-	want.Global, want.Meta.Uid, want.Meta.Extra = recs("g", "1", "h", "2"), 7, recs("c", "3", "g", "1", "h", "2")
+	want := grouped(2, 4, 5, 6, holed(3, 9, sample.Parts(0, 1, 5, 2)))
+	want.Global, want.Meta.Uid, want.Meta.Extra = sample.Recs("g", "1", "h", "2"), 7, sample.Recs("c", "3", "g", "1", "h", "2")
 	if !reflect.DeepEqual(second, want) {
 		t.Errorf("what was read became %+v", second)
 	}
-	if !bytes.Equal(secondBytes, some(3)) || string(secondLoad) != "6 a=1\n6 b=2\n" || !slices.Equal(secondRecs, recs("a", "1", "b", "2")) {
+	if !bytes.Equal(secondBytes, sample.Some(3)) || string(secondLoad) != "6 a=1\n6 b=2\n" || !slices.Equal(secondRecs, sample.Recs("a", "1", "b", "2")) {
 		t.Errorf("what came out became %v, %q, %v", secondBytes, secondLoad, secondRecs)
 	}
 }
 
 // What lies behind a list's length is not handed out.
 func TestNothingLiesBehind(t *testing.T) {
-	x := image(some(600))
+	x := sample.Image(sample.Some(600))
 	for size := range 600 {
 		load, _, _ := Payload(x, -1, api.Header{Size: size})
 		for _, b := range [][]byte{Bytes(x, api.Group{Meta: api.Meta{Size: size}}), load} {
@@ -540,8 +498,8 @@ func TestNothingLiesBehind(t *testing.T) {
 			}
 		}
 	}
-	global := recs("a", "1", "b", "2")
-	g, _ := Read(image(mainBlock('0', "a", 0)), 0, global[:1], nil)
+	global := sample.Recs("a", "1", "b", "2")
+	g, _ := Read(sample.Image(sample.Main('0', "a", 0)), 0, global[:1], nil)
 	if slices.Contains(g.Global[:cap(g.Global)], global[1]) {
 		t.Error("a record behind Global is handed out")
 	}

@@ -34,6 +34,7 @@ var layers = []struct {
 	{"sparse", []string{"api", "head"}, []string{"label", "range-function"}},
 	{"meta", []string{"api", "num", "str", "pax", "stamp", "sparse"}, []string{"closure", "pointer", "array"}},
 	{"group", []string{"api", "str", "pax", "medium", "head", "sparse", "meta"}, []string{"map", "method-value", "errors-as"}},
+	{"strict", []string{"api", "sum", "medium", "group"}, []string{"range-function", "label"}},
 }
 
 // library is what a layer may import beside the project's packages.

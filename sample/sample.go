@@ -1,0 +1,164 @@
+// Package sample makes records, headers and archives that the tests of the layers above meta work on; no layer stands on it.
+package sample
+
+import (
+	"bytes"
+	"slices"
+	"strings"
+
+	"mudlark/api"
+	"mudlark/head"
+	"mudlark/meta"
+	"mudlark/num"
+	"mudlark/pax"
+	"mudlark/sum"
+)
+
+// Recs are records of keys, each with its value behind it.
+func Recs(texts ...string) []api.Rec {
+	var l []api.Rec
+	for pair := range slices.Chunk(texts, 2) {
+		l = append(l, api.Rec{Key: pair[0], Value: pair[1]})
+	}
+	return l
+}
+
+// Parts are those of numbers, each At with the Len behind it.
+func Parts(numbers ...int) []api.Part {
+	var l []api.Part
+	for pair := range slices.Chunk(numbers, 2) {
+		l = append(l, api.Part{At: pair[0], Len: pair[1]})
+	}
+	return l
+}
+
+// Letters are so many of a text's.
+func Letters(n int) string {
+	return strings.Repeat("n", n)
+}
+
+// Some is so many bytes, of which none is 00 and neighbouring blocks differ.
+func Some(n int) []byte {
+	b := make([]byte, n)
+	for i := range b {
+		b[i] = byte(1 + (i+i/api.Block*7)%255)
+	}
+	return b
+}
+
+// Filled is b with as few noughts behind it as make blocks; Noughts are so many blocks of them.
+func Filled(b []byte) []byte {
+	rest := len(b) % api.Block
+	if rest == 0 {
+		return bytes.Clone(b)
+	}
+	return append(bytes.Clone(b), make([]byte, api.Block-rest)...)
+}
+
+func Noughts(n int) []byte {
+	return make([]byte, n*api.Block)
+}
+
+// Laid is a header's block; it must have one.
+func Laid(h api.Header) []byte {
+	b, e := head.Print(h)
+	if e != api.OK {
+		panic("no block of " + h.Name)
+	}
+	return b
+}
+
+// Named is a header of a kind with a name, a size, and what else it may not lack; Main is the block of such a one.
+func Named(kind byte, name string, size int) api.Header {
+	h := api.Header{Name: name, Kind: kind, Way: api.Gnu, Size: size}
+	if kind == api.Hard || kind == api.Soft {
+		h.Link = "to"
+	}
+	return h
+}
+
+func Main(kind byte, name string, size int) []byte {
+	return Laid(Named(kind, name, size))
+}
+
+// File is one of a name, with its bytes, as it stands in an archive.
+func File(name string, data []byte) []byte {
+	return append(Main(api.File, name, len(data)), Filled(data)...)
+}
+
+// Written is a member as a writer lays it; it must be one that may be.
+func Written(m api.Member) []byte {
+	h, l, e := meta.To(m.Meta)
+	if e != api.OK {
+		panic("no header of " + m.Meta.Name)
+	}
+	var b []byte
+	if len(l) > 0 {
+		b = Extension(api.Local, Lines(l))
+	}
+	return slices.Concat(b, Laid(h), Filled(m.Data))
+}
+
+// Lines is the payload of records; they must have one.
+func Lines(l []api.Rec) string {
+	b, e := pax.Print(l)
+	if e != api.OK {
+		panic("no payload of records")
+	}
+	return string(b)
+}
+
+// Extension is a header of a kind, with a payload behind it; Records is one of keys, each with its value behind it.
+func Extension(kind byte, payload string) []byte {
+	return append(Main(kind, "ext", len(payload)), Filled([]byte(payload))...)
+}
+
+func Records(kind byte, texts ...string) []byte {
+	return Extension(kind, Lines(Recs(texts...)))
+}
+
+// Holed is the header of a file with holes, Further a block of parts behind it.
+func Holed(size, real int, more bool, l ...api.Part) []byte {
+	h := Named(api.Sparse, "s", size)
+	h.Real, h.More, h.Parts = real, more, l
+	return Laid(h)
+}
+
+func Further(goesOn byte, l ...api.Part) []byte {
+	var b []byte
+	for _, p := range l {
+		for _, n := range []int{p.At, p.Len} {
+			field, _ := num.Put(n, 12)
+			b = append(b, field...)
+		}
+	}
+	b = Filled(append(b, 0))
+	b[504] = goesOn
+	return b
+}
+
+// Changed is a block with another text at a place, sealed; Unsealed one that does not tell its sum.
+func Changed(b []byte, place int, text string) []byte {
+	b = bytes.Clone(b)
+	copy(b[place:], text)
+	return sum.Seal(b)
+}
+
+func Unsealed(b []byte) []byte {
+	b = bytes.Clone(b)
+	b[0]++
+	return b
+}
+
+// Image is one of blocks, all of which can be read; Spoilt has some that can't, Cut lacks so many of its last bytes.
+func Image(blocks ...[]byte) api.Image {
+	return api.Image{Bytes: slices.Concat(blocks...)}
+}
+
+func Spoilt(x api.Image, bad ...int) api.Image {
+	return api.Image{Bytes: x.Bytes, Bad: bad}
+}
+
+func Cut(x api.Image, n int) api.Image {
+	return api.Image{Bytes: x.Bytes[:len(x.Bytes)-n], Bad: x.Bad}
+}
