@@ -99,6 +99,18 @@ func Written(m api.Member) []byte {
 	return slices.Concat(b, Laid(h), Filled(m.Data))
 }
 
+// Archived are pieces, one behind the other, with the end.
+func Archived(pieces ...[]byte) []byte {
+	return append(slices.Concat(pieces...), Noughts(2)...)
+}
+
+// Same says whether members are alike, and so is what they have behind them.
+func Same(l, want []api.Member) bool {
+	return slices.EqualFunc(l, want, func(a, b api.Member) bool {
+		return meta.Same(a.Meta, b.Meta) && bytes.Equal(a.Data, b.Data)
+	})
+}
+
 // Lines is the payload of records; they must have one.
 func Lines(l []api.Rec) string {
 	b, e := pax.Print(l)

@@ -6,17 +6,12 @@ import (
 	"testing"
 
 	"mudlark/api"
-	"mudlark/meta"
 	"mudlark/sample"
 )
 
-// joined are pieces, one behind the other; archive likewise, with the end.
+// joined are pieces, one behind the other.
 func joined(pieces ...[]byte) []byte {
 	return slices.Concat(pieces...)
-}
-
-func archived(pieces ...[]byte) []byte {
-	return append(joined(pieces...), sample.Noughts(2)...)
 }
 
 // known is a file of a name, a size and other records.
@@ -24,18 +19,11 @@ func known(name string, size int, extra ...api.Rec) api.Meta {
 	return api.Meta{Name: name, Kind: api.File, Size: size, Real: size, Extra: extra}
 }
 
-// same says whether members are alike, and so is what they have behind them.
-func same(l, want []api.Member) bool {
-	return slices.EqualFunc(l, want, func(a, b api.Member) bool {
-		return meta.Same(a.Meta, b.Meta) && bytes.Equal(a.Data, b.Data)
-	})
-}
-
 // reads holds what is read against what it should be.
 func reads(t *testing.T, name string, b []byte, want ...api.Member) {
 	t.Helper()
 	l, at, e := Read(b)
-	if !same(l, want) || at != 0 || e != api.OK {
+	if !sample.Same(l, want) || at != 0 || e != api.OK {
 		t.Errorf("%s: Read = %+v, %d, %d; want %+v", name, l, at, e, want)
 	}
 	if !Right(b) {
@@ -61,17 +49,17 @@ func TestExamples(t *testing.T) {
 
 func TestMembers(t *testing.T) {
 	a, b := sample.Some(600), sample.Some(1024)
-	reads(t, "one", archived(sample.File("a", a)), api.Member{Meta: known("a", 600), Data: a})
-	reads(t, "one of no bytes", archived(sample.File("a", nil)), api.Member{Meta: known("a", 0)})
-	reads(t, "two", archived(sample.File("a", a), sample.File("b", b)),
+	reads(t, "one", sample.Archived(sample.File("a", a)), api.Member{Meta: known("a", 600), Data: a})
+	reads(t, "one of no bytes", sample.Archived(sample.File("a", nil)), api.Member{Meta: known("a", 0)})
+	reads(t, "two", sample.Archived(sample.File("a", a), sample.File("b", b)),
 		api.Member{Meta: known("a", 600), Data: a}, api.Member{Meta: known("b", 1024), Data: b})
 	// A member may come again.
-	reads(t, "three of a name", archived(sample.File("a", a), sample.File("a", nil), sample.File("a", b)),
+	reads(t, "three of a name", sample.Archived(sample.File("a", a), sample.File("a", nil), sample.File("a", b)),
 		api.Member{Meta: known("a", 600), Data: a}, api.Member{Meta: known("a", 0)}, api.Member{Meta: known("a", 1024), Data: b})
-	reads(t, "a file of noughts", archived(sample.File("a", sample.Noughts(3))), api.Member{Meta: known("a", 1536), Data: sample.Noughts(3)})
+	reads(t, "a file of noughts", sample.Archived(sample.File("a", sample.Noughts(3))), api.Member{Meta: known("a", 1536), Data: sample.Noughts(3)})
 	// What a file holds is none of the archive's own.
-	inner := archived(sample.File("b", b))
-	reads(t, "an archive within", archived(sample.File("a", inner)), api.Member{Meta: known("a", len(inner)), Data: inner})
+	inner := sample.Archived(sample.File("b", b))
+	reads(t, "an archive within", sample.Archived(sample.File("a", inner)), api.Member{Meta: known("a", len(inner)), Data: inner})
 }
 
 func TestKinds(t *testing.T) {
@@ -80,27 +68,27 @@ func TestKinds(t *testing.T) {
 		if kind == api.Hard || kind == api.Soft {
 			m.Link = "to"
 		}
-		reads(t, string(kind), archived(sample.Main(kind, "a", 0)), api.Member{Meta: m})
+		reads(t, string(kind), sample.Archived(sample.Main(kind, "a", 0)), api.Member{Meta: m})
 	}
-	reads(t, "dense", archived(sample.Main(api.Dense, "a", 5), sample.Filled(sample.Some(5))), api.Member{Meta: known("a", 5), Data: sample.Some(5)})
-	reads(t, "a directory by its name", archived(sample.Main(api.File, "a/", 0)), api.Member{Meta: api.Meta{Name: "a/", Kind: api.Dir}})
+	reads(t, "dense", sample.Archived(sample.Main(api.Dense, "a", 5), sample.Filled(sample.Some(5))), api.Member{Meta: known("a", 5), Data: sample.Some(5)})
+	reads(t, "a directory by its name", sample.Archived(sample.Main(api.File, "a/", 0)), api.Member{Meta: api.Meta{Name: "a/", Kind: api.Dir}})
 	// A size that a directory tells is none that is stored.
-	reads(t, "a directory with a size", archived(sample.Main(api.Dir, "d", 600), sample.File("a", nil)),
+	reads(t, "a directory with a size", sample.Archived(sample.Main(api.Dir, "d", 600), sample.File("a", nil)),
 		api.Member{Meta: api.Meta{Name: "d", Kind: api.Dir}}, api.Member{Meta: known("a", 0)})
 	m := api.Meta{Name: "s", Kind: api.File, Size: 7, Real: 50, Holes: true, Parts: sample.Parts(1, 2, 9, 5)}
-	reads(t, "with holes", archived(sample.Holed(7, 50, false, m.Parts...), sample.Filled(sample.Some(7))), api.Member{Meta: m, Data: sample.Some(7)})
-	reads(t, "with parts behind", archived(sample.Holed(7, 50, true, m.Parts[0]), sample.Further(0, sample.Parts(9, 5)...), sample.Filled(sample.Some(7)), sample.File("a", nil)),
+	reads(t, "with holes", sample.Archived(sample.Holed(7, 50, false, m.Parts...), sample.Filled(sample.Some(7))), api.Member{Meta: m, Data: sample.Some(7)})
+	reads(t, "with parts behind", sample.Archived(sample.Holed(7, 50, true, m.Parts[0]), sample.Further(0, sample.Parts(9, 5)...), sample.Filled(sample.Some(7)), sample.File("a", nil)),
 		api.Member{Meta: m, Data: sample.Some(7)}, api.Member{Meta: known("a", 0)})
 }
 
 func TestExtensions(t *testing.T) {
-	reads(t, "records", archived(sample.Records(api.Local, "path", "b", "k", "v"), sample.File("a", sample.Some(3)), sample.File("a", nil)),
+	reads(t, "records", sample.Archived(sample.Records(api.Local, "path", "b", "k", "v"), sample.File("a", sample.Some(3)), sample.File("a", nil)),
 		api.Member{Meta: known("b", 3, sample.Recs("k", "v")...), Data: sample.Some(3)}, api.Member{Meta: known("a", 0)})
-	reads(t, "a size in a record", archived(sample.Records(api.Local, "size", "513"), sample.Main(api.File, "a", 0), sample.Filled(sample.Some(513)), sample.File("b", nil)),
+	reads(t, "a size in a record", sample.Archived(sample.Records(api.Local, "size", "513"), sample.Main(api.File, "a", 0), sample.Filled(sample.Some(513)), sample.File("b", nil)),
 		api.Member{Meta: known("a", 513), Data: sample.Some(513)}, api.Member{Meta: known("b", 0)})
-	reads(t, "a long name", archived(sample.Extension(api.LongName, sample.Letters(600)+"\x00"), sample.File("a", sample.Some(3))),
+	reads(t, "a long name", sample.Archived(sample.Extension(api.LongName, sample.Letters(600)+"\x00"), sample.File("a", sample.Some(3))),
 		api.Member{Meta: known(sample.Letters(600), 3), Data: sample.Some(3)})
-	reads(t, "a long link", archived(sample.Extension(api.LongLink, sample.Letters(600)+"\x00"), sample.Main(api.Soft, "a", 0)),
+	reads(t, "a long link", sample.Archived(sample.Extension(api.LongLink, sample.Letters(600)+"\x00"), sample.Main(api.Soft, "a", 0)),
 		api.Member{Meta: api.Meta{Name: "a", Kind: api.Soft, Link: sample.Letters(600)}})
 }
 
@@ -132,9 +120,9 @@ func TestGlobals(t *testing.T) {
 		{"at the end", [][]byte{file, sample.Records(api.Global, "k", "v"), sample.Records(api.Global, "j", "u")}, []api.Member{named("")}},
 		{"alone", [][]byte{sample.Records(api.Global, "k", "v")}, nil},
 	} {
-		reads(t, c.name, archived(c.pieces...), c.want...)
+		reads(t, c.name, sample.Archived(c.pieces...), c.want...)
 	}
-	size := archived(sample.Records(api.Global, "size", "513"), sample.Main(api.File, "a", 0), sample.Filled(sample.Some(513)), sample.Main(api.Dir, "d", 0))
+	size := sample.Archived(sample.Records(api.Global, "size", "513"), sample.Main(api.File, "a", 0), sample.Filled(sample.Some(513)), sample.Main(api.Dir, "d", 0))
 	reads(t, "a size", size, api.Member{Meta: known("a", 513), Data: sample.Some(513)}, api.Member{Meta: api.Meta{Name: "d", Kind: api.Dir}})
 }
 
@@ -150,15 +138,15 @@ func TestManyGlobals(t *testing.T) {
 		all = append(all, l...)
 		pieces = append(pieces, sample.Extension(api.Global, sample.Lines(l)))
 	}
-	readsNone(t, "more than may be", archived(append(pieces[:3:3], sample.File("a", nil))...), len(joined(pieces...))/512, api.ErrLong)
-	reads(t, "two of three", archived(append(pieces[:1:1], sample.Extension(api.Global, sample.Lines(sample.Recs("aaaa", "w"))), sample.File("a", nil))...),
+	readsNone(t, "more than may be", sample.Archived(append(pieces[:3:3], sample.File("a", nil))...), len(joined(pieces...))/512, api.ErrLong)
+	reads(t, "two of three", sample.Archived(append(pieces[:1:1], sample.Extension(api.Global, sample.Lines(sample.Recs("aaaa", "w"))), sample.File("a", nil))...),
 		api.Member{Meta: known("a", 0, append(sample.Recs("aaaa", "w"), all[1:1000]...)...)})
 }
 
 // Many of the same key do not make what follows slow.
 func TestGlobalsAgainAndAgain(t *testing.T) {
 	b := joined(sample.Records(api.Global, "k", "v"), sample.File("a", nil))
-	l, _, e := Read(archived(bytes.Repeat(b, 4000)))
+	l, _, e := Read(sample.Archived(bytes.Repeat(b, 4000)))
 	if len(l) != 4000 || e != api.OK || !slices.Equal(l[3999].Meta.Extra, sample.Recs("k", "v")) {
 		t.Errorf("Read = %d members, %d", len(l), e)
 	}
@@ -189,7 +177,7 @@ func TestEnd(t *testing.T) {
 func TestBehindTheEnd(t *testing.T) {
 	a := sample.File("a", sample.Some(600))
 	readsNone(t, "a file", joined(sample.Noughts(2), a), 2, api.ErrEnd)
-	readsNone(t, "two archives", joined(archived(a), archived(a)), 5, api.ErrEnd)
+	readsNone(t, "two archives", joined(sample.Archived(a), sample.Archived(a)), 5, api.ErrEnd)
 	readsNone(t, "a file behind one block", joined(a, sample.Noughts(1), a, sample.Noughts(2)), 4, api.ErrEnd)
 	readsNone(t, "a file behind many", joined(sample.Noughts(7), a, sample.Noughts(2)), 7, api.ErrEnd)
 	for i := range 2048 - 512 {
@@ -231,10 +219,10 @@ func TestWrongHeads(t *testing.T) {
 		"parts that may not be":      {sample.Holed(7, 50, false, api.Part{At: 49, Len: 7}), api.ErrRecs},
 	}
 	for name, c := range want {
-		readsNone(t, name, archived(c.b), 0, c.e)
-		readsNone(t, name, archived(c.b, a), 0, c.e)
-		readsNone(t, name+", behind a file", archived(a, c.b), 3, c.e)
-		readsNone(t, name+", behind a global", archived(sample.Records(api.Global, "k", "v"), a, sample.Records(api.Global, "k", "v"), c.b), 7, c.e)
+		readsNone(t, name, sample.Archived(c.b), 0, c.e)
+		readsNone(t, name, sample.Archived(c.b, a), 0, c.e)
+		readsNone(t, name+", behind a file", sample.Archived(a, c.b), 3, c.e)
+		readsNone(t, name+", behind a global", sample.Archived(sample.Records(api.Global, "k", "v"), a, sample.Records(api.Global, "k", "v"), c.b), 7, c.e)
 		// What comes behind it is not told.
 		readsNone(t, name+", and others", joined(a, a, c.b, sample.Some(512), sample.Noughts(1)), 6, c.e)
 	}
@@ -248,11 +236,11 @@ func TestWrongHeads(t *testing.T) {
 func TestWrongGlobals(t *testing.T) {
 	plain := sample.Main(api.File, "a", 0)
 	g := sample.Records(api.Global, "size", "x")
-	reads(t, "for none", archived(g))
-	readsNone(t, "for a file", archived(g, plain), 2, api.ErrRecs)
-	readsNone(t, "for a file with its own records", archived(plain, g, sample.Records(api.Local, "k", "v"), plain), 3, api.ErrRecs)
-	reads(t, "mended", archived(g, sample.Records(api.Local, "size", "0"), plain), api.Member{Meta: known("a", 0)})
-	reads(t, "mended for all", archived(g, sample.Records(api.Global, "size", "0"), plain), api.Member{Meta: known("a", 0)})
+	reads(t, "for none", sample.Archived(g))
+	readsNone(t, "for a file", sample.Archived(g, plain), 2, api.ErrRecs)
+	readsNone(t, "for a file with its own records", sample.Archived(plain, g, sample.Records(api.Local, "k", "v"), plain), 3, api.ErrRecs)
+	reads(t, "mended", sample.Archived(g, sample.Records(api.Local, "size", "0"), plain), api.Member{Meta: known("a", 0)})
+	reads(t, "mended for all", sample.Archived(g, sample.Records(api.Global, "size", "0"), plain), api.Member{Meta: known("a", 0)})
 }
 
 // Where an archive is cut off, that is told of the block where what is cut begins.
@@ -266,7 +254,7 @@ func TestCutOff(t *testing.T) {
 		{"a member behind a global", sample.Records(api.Global, "k", sample.Letters(600)), [][3]int{{1536, 0, 42}, {2048, 3, 42}, {3584, 3, 21}}},
 		{"a long name", sample.Extension(api.LongName, sample.Letters(600)), [][3]int{{1537, 0, 42}, {3584, 0, 21}}},
 	} {
-		b := archived(c.ahead, sample.File("a", sample.Some(1100)))
+		b := sample.Archived(c.ahead, sample.File("a", sample.Some(1100)))
 		for n := range len(b) {
 			at, e := n/512, api.ErrEnd
 			if i := slices.IndexFunc(c.ends, func(end [3]int) bool { return n < end[0] }); i >= 0 {
@@ -290,16 +278,16 @@ func TestShort(t *testing.T) {
 		// Bytes that lack are told ahead of the padding, and of the end.
 		readsNone(t, "of another file ahead", joined(sample.File("b", sample.Some(5)), head, data[:len(data)-1]), 2, api.ErrShort)
 	}
-	readsNone(t, "more than there are", archived(sample.Main(api.File, "a", 1025)), 0, api.ErrShort)
-	readsNone(t, "all noughts, and no end", archived(sample.Main(api.File, "a", 1024)), 3, api.ErrEnd)
-	readsNone(t, "one of the end", archived(sample.Main(api.File, "a", 512)), 3, api.ErrEnd)
-	readsNone(t, "a size in a record", archived(sample.Records(api.Local, "size", "1099511627776"), sample.Main(api.File, "a", 0)), 0, api.ErrShort)
-	readsNone(t, "a size above all", archived(sample.Records(api.Local, "size", "1099511627777"), sample.Main(api.File, "a", 0)), 0, api.ErrRecs)
+	readsNone(t, "more than there are", sample.Archived(sample.Main(api.File, "a", 1025)), 0, api.ErrShort)
+	readsNone(t, "all noughts, and no end", sample.Archived(sample.Main(api.File, "a", 1024)), 3, api.ErrEnd)
+	readsNone(t, "one of the end", sample.Archived(sample.Main(api.File, "a", 512)), 3, api.ErrEnd)
+	readsNone(t, "a size in a record", sample.Archived(sample.Records(api.Local, "size", "1099511627776"), sample.Main(api.File, "a", 0)), 0, api.ErrShort)
+	readsNone(t, "a size above all", sample.Archived(sample.Records(api.Local, "size", "1099511627777"), sample.Main(api.File, "a", 0)), 0, api.ErrRecs)
 }
 
 func TestPadding(t *testing.T) {
 	for _, size := range []int{1, 2, 510, 511, 513, 600, 1023} {
-		b := archived(sample.File("b", nil), sample.File("a", sample.Some(size)))
+		b := sample.Archived(sample.File("b", nil), sample.File("a", sample.Some(size)))
 		for i := 1024 + size; i < len(b)-1024; i++ {
 			for _, c := range []byte{1, ' ', 0x80, 0xff} {
 				wrong := bytes.Clone(b)
@@ -316,7 +304,7 @@ func TestPadding(t *testing.T) {
 		readsNone(t, "a block behind", b, 1+size/512, api.ErrSum)
 	}
 	// A payload's padding is not asked for.
-	b := archived(sample.Records(api.Global, "k", "v"), sample.Records(api.Local, "j", "u"), sample.Extension(api.LongName, "n"), sample.File("a", nil))
+	b := sample.Archived(sample.Records(api.Global, "k", "v"), sample.Records(api.Local, "j", "u"), sample.Extension(api.LongName, "n"), sample.File("a", nil))
 	for _, i := range []int{600, 1023, 1700, 2047, 2700, 3071} {
 		b[i] = 'x'
 	}
@@ -338,7 +326,7 @@ func TestNilIsEmpty(t *testing.T) {
 }
 
 func TestWhatIsHandedInStays(t *testing.T) {
-	whole := archived(sample.Records(api.Global, "k", "v"), sample.File("a", sample.Some(600)), sample.Records(api.Global, "k", "w"), sample.File("b", sample.Some(3)))
+	whole := sample.Archived(sample.Records(api.Global, "k", "v"), sample.File("a", sample.Some(600)), sample.Records(api.Global, "k", "w"), sample.File("b", sample.Some(3)))
 	for _, n := range []int{len(whole), 2600, 1500, 0} {
 		b := append(bytes.Clone(whole[:n]), sample.Some(700)...)
 		kept := bytes.Clone(b)
@@ -353,14 +341,14 @@ func TestWhatIsHandedInStays(t *testing.T) {
 }
 
 func TestWhatComesOutIsNew(t *testing.T) {
-	b := archived(sample.Records(api.Global, "k", "v"), sample.File("a", sample.Some(600)), sample.Holed(7, 50, false, api.Part{At: 9, Len: 7}), sample.Filled(sample.Some(7)))
+	b := sample.Archived(sample.Records(api.Global, "k", "v"), sample.File("a", sample.Some(600)), sample.Holed(7, 50, false, api.Part{At: 9, Len: 7}), sample.Filled(sample.Some(7)))
 	l, _, _ := Read(b)
 	again, _, _ := Read(b)
 	want := []api.Member{
 		{Meta: known("a", 600, sample.Recs("k", "v")...), Data: sample.Some(600)},
 		{Meta: api.Meta{Name: "s", Kind: api.File, Size: 7, Real: 50, Holes: true, Parts: sample.Parts(9, 7), Extra: sample.Recs("k", "v")}, Data: sample.Some(7)},
 	}
-	if !same(l, want) || !same(again, want) {
+	if !sample.Same(l, want) || !sample.Same(again, want) {
 		t.Fatalf("Read = %+v, %+v; want %+v", l, again, want)
 	}
 	for _, m := range l {
@@ -371,11 +359,11 @@ func TestWhatComesOutIsNew(t *testing.T) {
 	}
 	l[0].Data = append(l[0].Data, 'x')
 	l[1].Meta.Name = "x"
-	if !same(again, want) {
+	if !sample.Same(again, want) {
 		t.Errorf("another answer became %+v", again)
 	}
 	clear(b)
-	if !same(again, want) {
+	if !sample.Same(again, want) {
 		t.Errorf("an answer became %+v with its bytes", again)
 	}
 	reads(t, "noughts", b)
@@ -383,7 +371,7 @@ func TestWhatComesOutIsNew(t *testing.T) {
 
 // The bytes of one member are not those of another.
 func TestMembersShareNoBytes(t *testing.T) {
-	l, _, _ := Read(archived(sample.File("a", sample.Some(5)), sample.File("b", sample.Some(5))))
+	l, _, _ := Read(sample.Archived(sample.File("a", sample.Some(5)), sample.File("b", sample.Some(5))))
 	first := l[0].Data[:cap(l[0].Data)]
 	for i := range first {
 		first[i] = 0
@@ -396,7 +384,7 @@ func TestMembersShareNoBytes(t *testing.T) {
 // Who has enough members gets no more, and what was told stays with the archive.
 func TestMembersStop(t *testing.T) {
 	for n := 1; n <= 3; n++ {
-		a := archive{image: api.Image{Bytes: archived(sample.File("a", sample.Some(5)), sample.File("b", nil), sample.File("c", sample.Some(600)))}}
+		a := archive{image: api.Image{Bytes: sample.Archived(sample.File("a", sample.Some(5)), sample.File("b", nil), sample.File("c", sample.Some(600)))}}
 		count := 0
 		for range a.members {
 			count++

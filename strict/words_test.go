@@ -120,7 +120,7 @@ func TestReadAnythingByWords(t *testing.T) {
 		b := someArchive(&d)
 		l, at, e := Read(b)
 		want, wantAt, err := readByWords(b)
-		if !same(l, want) || at != wantAt || e != err || Right(b) != (err == api.OK) {
+		if !sample.Same(l, want) || at != wantAt || e != err || Right(b) != (err == api.OK) {
 			t.Fatalf("Read of %d bytes = %+v, %d, %d; want %+v, %d, %d", len(b), l, at, e, want, wantAt, err)
 		}
 		told[err]++
@@ -135,18 +135,18 @@ func TestReadAnythingByWords(t *testing.T) {
 
 // Each byte of an archive that is another one makes it another archive, or none.
 func TestEachByteCounts(t *testing.T) {
-	b := archived(sample.Records(api.Global, "k", "v"), sample.File("a", sample.Some(5)), sample.Main(api.Dir, "d/", 0))
+	b := sample.Archived(sample.Records(api.Global, "k", "v"), sample.File("a", sample.Some(5)), sample.Main(api.Dir, "d/", 0))
 	whole, _, _ := Read(b)
 	for i := range b {
 		changed := bytes.Clone(b)
 		changed[i] ^= 0x11
 		l, at, e := Read(changed)
 		want, wantAt, err := readByWords(changed)
-		if !same(l, want) || at != wantAt || e != err {
+		if !sample.Same(l, want) || at != wantAt || e != err {
 			t.Fatalf("Read with byte %d changed = %+v, %d, %d; want %+v, %d, %d", i, l, at, e, want, wantAt, err)
 		}
 		isPadding := i >= 512+len(sample.Lines(sample.Recs("k", "v"))) && i < 1024
-		if e == api.OK && same(l, whole) != isPadding {
+		if e == api.OK && sample.Same(l, whole) != isPadding {
 			t.Errorf("byte %d changes nothing, or what it should not", i)
 		}
 	}
@@ -162,7 +162,7 @@ func TestWhatWasWrittenIsRead(t *testing.T) {
 			l = append(l, m)
 			b = append(b, sample.Written(m)...)
 		}
-		reads(t, "what was written", archived(b), l...)
+		reads(t, "what was written", sample.Archived(b), l...)
 		readsNone(t, "without its end", b, len(b)/512, api.ErrEnd)
 	}
 }
@@ -210,7 +210,7 @@ func TestOthersReadTheSame(t *testing.T) {
 		for range 1 + d.Below(5) {
 			b = append(b, sample.Written(sample.Member(&d))...)
 		}
-		b = archived(b)
+		b = sample.Archived(b)
 		r := tar.NewReader(bytes.NewReader(b))
 		l, _, _ := Read(b)
 		for _, m := range l {

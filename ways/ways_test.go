@@ -35,6 +35,7 @@ var layers = []struct {
 	{"meta", []string{"api", "num", "str", "pax", "stamp", "sparse"}, []string{"closure", "pointer", "array"}},
 	{"group", []string{"api", "str", "pax", "medium", "head", "sparse", "meta"}, []string{"map", "method-value", "errors-as"}},
 	{"strict", []string{"api", "sum", "medium", "group"}, []string{"range-function", "label"}},
+	{"write", []string{"api", "pax", "head", "meta"}, []string{"embedding", "promoted"}},
 }
 
 // library is what a layer may import beside the project's packages.
@@ -133,6 +134,9 @@ func (c *code) ways(f *ast.File) map[string]bool {
 			if !calls[n] {
 				found[c.selected(n)] = true
 			}
+			found[c.reached(n)] = true
+		case *ast.StructType:
+			found[embeds(n)] = true
 		case *ast.DeferStmt:
 			found["defer"] = true
 		case *ast.TypeAssertExpr:
@@ -179,6 +183,22 @@ func (c *code) selected(n *ast.SelectorExpr) string {
 		return "method-value"
 	}
 	return "selected"
+}
+
+// reached tells a method that an embedded field has, and its struct by that, from what is a type's own.
+func (c *code) reached(n *ast.SelectorExpr) string {
+	if s := c.info.Selections[n]; s != nil && s.Kind() == types.MethodVal && len(s.Index()) > 1 {
+		return "promoted"
+	}
+	return "own"
+}
+
+// embeds tells a struct with a field that has no name of its own.
+func embeds(n *ast.StructType) string {
+	if slices.ContainsFunc(n.Fields.List, func(f *ast.Field) bool { return len(f.Names) == 0 }) {
+		return "embedding"
+	}
+	return "struct"
 }
 
 // size tells an array from a slice, that has none.
