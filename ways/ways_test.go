@@ -36,6 +36,7 @@ var layers = []struct {
 	{"group", []string{"api", "str", "pax", "medium", "head", "sparse", "meta"}, []string{"map", "method-value", "errors-as"}},
 	{"strict", []string{"api", "sum", "medium", "group"}, []string{"range-function", "label"}},
 	{"write", []string{"api", "pax", "head", "meta"}, []string{"embedding", "promoted"}},
+	{"score", []string{"api", "num", "str", "sum", "head"}, []string{"array", "closure", "function-field"}},
 }
 
 // library is what a layer may import beside the project's packages.
@@ -137,6 +138,7 @@ func (c *code) ways(f *ast.File) map[string]bool {
 			found[c.reached(n)] = true
 		case *ast.StructType:
 			found[embeds(n)] = true
+			found[c.fields(n)] = true
 		case *ast.DeferStmt:
 			found["defer"] = true
 		case *ast.TypeAssertExpr:
@@ -197,6 +199,18 @@ func (c *code) reached(n *ast.SelectorExpr) string {
 func embeds(n *ast.StructType) string {
 	if slices.ContainsFunc(n.Fields.List, func(f *ast.Field) bool { return len(f.Names) == 0 }) {
 		return "embedding"
+	}
+	return "struct"
+}
+
+// fields tells a struct with a function in one of its fields.
+func (c *code) fields(n *ast.StructType) string {
+	isFunction := func(f *ast.Field) bool {
+		_, ok := c.info.Types[f.Type].Type.Underlying().(*types.Signature)
+		return ok
+	}
+	if slices.ContainsFunc(n.Fields.List, isFunction) {
+		return "function-field"
 	}
 	return "struct"
 }
