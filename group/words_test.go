@@ -157,62 +157,13 @@ func bytesByWords(x api.Image, g api.Group) []byte {
 	return b
 }
 
-// someRecs are records, mostly of what is known.
-func someRecs(d *sample.Draw) []api.Rec {
-	var l []api.Rec
-	for range d.Below(4) {
-		l = append(l, sample.Recs(sample.One(d, "path", "linkpath", "uid", "size", "size", "mtime", "k", "z", "uname"), sample.One(d, "0", "1", "600", "5", "", "7", "1025", "x"))...)
-	}
-	return l
-}
-
-// somePieces are blocks that may stand in an archive, or what is left of them.
-func somePieces(d *sample.Draw) []byte {
-	switch d.Below(12) {
-	case 0, 1, 2:
-		return sample.Extension('x', sample.One(d, sample.Lines(someRecs(d)), sample.Lines(someRecs(d)), sample.Lines(sample.Recs("k", sample.Letters(600))), "x", sample.Lines(sample.Recs("GNU.sparse.map", "0,5,10,2", "GNU.sparse.size", "12", "size", "7"))))
-	case 3:
-		return sample.Extension('L', sample.One(d, "n", sample.Letters(120), sample.Letters(700), "d/", "d/n\x00x", ""))
-	case 4:
-		return sample.Extension('K', sample.One(d, "n", sample.Letters(120), sample.Letters(700), "to\x00", ""))
-	case 5:
-		return sample.Extension('g', sample.One(d, sample.Lines(someRecs(d)), sample.Lines(sample.Recs("k", sample.Letters(600))), "", "x"))
-	case 6, 7:
-		return sample.Main(sample.One(d, []byte("00001234567")...), sample.One(d, "a", "a", "d/", ""), sample.One(d, 0, 3, 512, 600, 1<<40))
-	case 8:
-		return sample.Main(sample.One(d, []byte("xLKg")...), "cut", sample.One(d, 1, 512, 600, 5000, api.MaxExt, api.MaxExt+1))
-	case 9, 10:
-		b := sample.Holed(2, 50, true, sample.Parts(0, 1)...)
-		for range d.Below(3) {
-			b = append(b, sample.Further(1, sample.One(d, nil, sample.Parts(3, 0), sample.Parts(5, 1))...)...)
-		}
-		return append(b, sample.Further(0, sample.One(d, nil, sample.Parts(7, 1), sample.Parts(9, 2))...)...)
-	}
-	return sample.One(d, make([]byte, 512), sample.Some(512), sample.Unsealed(sample.Main('0', "a", 0)), sample.Changed(sample.Main('x', "a", 6), 156, "N"))
-}
-
-// someImage is one of such pieces, cut off somewhere, with blocks that are bad.
-func someImage(d *sample.Draw) api.Image {
-	var x api.Image
-	for range 1 + d.Below(6) {
-		x.Bytes = append(x.Bytes, somePieces(d)...)
-	}
-	if d.Below(4) == 0 {
-		x = sample.Cut(x, d.Below(1200)%len(x.Bytes))
-	}
-	for range d.Below(3) * d.Below(2) {
-		x.Bad = append(x.Bad, d.Below(len(x.Bytes)/512+3)-1)
-	}
-	return x
-}
-
 func TestReadAnythingByWords(t *testing.T) {
 	d := sample.Draw(11)
 	told, globalTold := map[api.Errno]int{}, map[api.Errno]int{}
 	for range 20000 {
-		x := someImage(&d)
+		x := sample.Wreck(&d)
 		for i := -1; i <= len(x.Bytes)/512+1; i++ {
-			global, own := sample.One(&d, nil, someRecs(&d)), sample.One(&d, nil, someRecs(&d))
+			global, own := sample.One(&d, nil, sample.Facts(&d)), sample.One(&d, nil, sample.Facts(&d))
 			g, e := Read(x, i, global, own)
 			want, err := readByWords(x, i, global, own)
 			if !reflect.DeepEqual(plain(g), plain(want)) || e != err {

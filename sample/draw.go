@@ -55,3 +55,51 @@ func holed(size int) []api.Part {
 	}
 	return Parts(7, 1, 9, size-1)
 }
+
+// Facts are records, mostly of what is known, drawn.
+func Facts(d *Draw) []api.Rec {
+	var l []api.Rec
+	for range d.Below(4) {
+		l = append(l, Recs(One(d, "path", "linkpath", "uid", "size", "size", "mtime", "k", "z", "uname"), One(d, "0", "1", "600", "5", "", "7", "1025", "x"))...)
+	}
+	return l
+}
+
+// Piece is blocks that may stand in an archive, or what is left of them, drawn; Wreck is an image of such ones, cut off somewhere, with blocks that are bad.
+func Piece(d *Draw) []byte {
+	switch d.Below(12) {
+	case 0, 1, 2:
+		return Extension('x', One(d, Lines(Facts(d)), Lines(Facts(d)), Lines(Recs("k", Letters(600))), "x", Lines(Recs("GNU.sparse.map", "0,5,10,2", "GNU.sparse.size", "12", "size", "7"))))
+	case 3:
+		return Extension('L', One(d, "n", Letters(120), Letters(700), "d/", "d/n\x00x", ""))
+	case 4:
+		return Extension('K', One(d, "n", Letters(120), Letters(700), "to\x00", ""))
+	case 5:
+		return Extension('g', One(d, Lines(Facts(d)), Lines(Recs("k", Letters(600))), "", "x"))
+	case 6, 7:
+		return Main(One(d, []byte("00001234567")...), One(d, "a", "a", "d/", ""), One(d, 0, 3, 512, 600, 1<<40))
+	case 8:
+		return Main(One(d, []byte("xLKg")...), "cut", One(d, 1, 512, 600, 5000, api.MaxExt, api.MaxExt+1))
+	case 9, 10:
+		b := Holed(2, 50, true, Parts(0, 1)...)
+		for range d.Below(3) {
+			b = append(b, Further(1, One(d, nil, Parts(3, 0), Parts(5, 1))...)...)
+		}
+		return append(b, Further(0, One(d, nil, Parts(7, 1), Parts(9, 2))...)...)
+	}
+	return One(d, make([]byte, 512), Some(512), Unsealed(Main('0', "a", 0)), Changed(Main('x', "a", 6), 156, "N"))
+}
+
+func Wreck(d *Draw) api.Image {
+	var x api.Image
+	for range 1 + d.Below(6) {
+		x.Bytes = append(x.Bytes, Piece(d)...)
+	}
+	if d.Below(4) == 0 {
+		x = Cut(x, d.Below(1200)%len(x.Bytes))
+	}
+	for range d.Below(3) * d.Below(2) {
+		x.Bad = append(x.Bad, d.Below(len(x.Bytes)/512+3)-1)
+	}
+	return x
+}

@@ -37,6 +37,7 @@ var layers = []struct {
 	{"strict", []string{"api", "sum", "medium", "group"}, []string{"range-function", "label"}},
 	{"write", []string{"api", "pax", "head", "meta"}, []string{"embedding", "promoted"}},
 	{"score", []string{"api", "num", "str", "sum", "head"}, []string{"array", "closure", "function-field"}},
+	{"index", []string{"api", "medium", "head", "score", "group"}, []string{"range-function"}},
 }
 
 // library is what a layer may import beside the project's packages.
