@@ -3,7 +3,6 @@ package group
 import (
 	"bytes"
 	"math"
-	"reflect"
 	"slices"
 	"strconv"
 	"strings"
@@ -13,23 +12,9 @@ import (
 	"mudlark/sample"
 )
 
-// plain has no lists that are empty: they are the same thing as nil.
-func plain(g api.Group) api.Group {
-	if len(g.Global) == 0 {
-		g.Global = nil
-	}
-	if len(g.Meta.Parts) == 0 {
-		g.Meta.Parts = nil
-	}
-	if len(g.Meta.Extra) == 0 {
-		g.Meta.Extra = nil
-	}
-	return g
-}
-
 func reads(t *testing.T, name string, x api.Image, i int, global, own []api.Rec, want api.Group) {
 	t.Helper()
-	if g, e := Read(x, i, global, own); !reflect.DeepEqual(plain(g), plain(want)) || e != api.OK {
+	if g, e := Read(x, i, global, own); !sample.SameGroup(g, want) || e != api.OK {
 		t.Errorf("%s: Read at %d = %+v, %d; want %+v", name, i, g, e, want)
 	}
 }
@@ -41,7 +26,7 @@ func readsNone(t *testing.T, name string, x api.Image, i int, want api.Errno) {
 
 func readsNoneWith(t *testing.T, name string, x api.Image, i int, global, own []api.Rec, want api.Errno) {
 	t.Helper()
-	if g, e := Read(x, i, global, own); !reflect.DeepEqual(plain(g), api.Group{}) || e != want {
+	if g, e := Read(x, i, global, own); !sample.SameGroup(g, api.Group{}) || e != want {
 		t.Errorf("%s: Read at %d = %+v, %d; want %d", name, i, g, e, want)
 	}
 }

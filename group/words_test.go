@@ -166,7 +166,7 @@ func TestReadAnythingByWords(t *testing.T) {
 			global, own := sample.One(&d, nil, sample.Facts(&d)), sample.One(&d, nil, sample.Facts(&d))
 			g, e := Read(x, i, global, own)
 			want, err := readByWords(x, i, global, own)
-			if !reflect.DeepEqual(plain(g), plain(want)) || e != err {
+			if !sample.SameGroup(g, want) || e != err {
 				t.Fatalf("Read at %d of %d bytes, bad %v, with %v, %v = %+v, %d; want %+v, %d", i, len(x.Bytes), x.Bad, global, own, g, e, want, err)
 			}
 			if b, want := Bytes(x, g), bytesByWords(x, g); !bytes.Equal(b, want) {

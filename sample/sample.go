@@ -104,11 +104,16 @@ func Archived(pieces ...[]byte) []byte {
 	return append(slices.Concat(pieces...), Noughts(2)...)
 }
 
-// Same says whether members are alike, and so is what they have behind them.
+// Same says whether members are alike, and so is what they have behind them; SameGroup whether groups are.
 func Same(l, want []api.Member) bool {
 	return slices.EqualFunc(l, want, func(a, b api.Member) bool {
 		return meta.Same(a.Meta, b.Meta) && bytes.Equal(a.Data, b.Data)
 	})
+}
+
+func SameGroup(a, b api.Group) bool {
+	return a.At == b.At && a.Main == b.Main && a.Data == b.Data && a.Next == b.Next &&
+		slices.Equal(a.Global, b.Global) && meta.Same(a.Meta, b.Meta)
 }
 
 // Lines is the payload of records; they must have one.

@@ -38,6 +38,7 @@ var layers = []struct {
 	{"write", []string{"api", "pax", "head", "meta"}, []string{"embedding", "promoted"}},
 	{"score", []string{"api", "num", "str", "sum", "head"}, []string{"array", "closure", "function-field"}},
 	{"index", []string{"api", "medium", "head", "score", "group"}, []string{"range-function"}},
+	{"tie", []string{"api", "str", "pax", "medium", "head", "group"}, []string{"fallthrough", "closure"}},
 }
 
 // library is what a layer may import beside the project's packages.
@@ -118,6 +119,8 @@ func (c *code) ways(f *ast.File) map[string]bool {
 			found["map"] = true
 		case *ast.LabeledStmt:
 			found["label"] = true
+		case *ast.BranchStmt:
+			found[n.Tok.String()] = true
 		case *ast.FuncLit:
 			found["closure"] = true
 		case *ast.Ellipsis:
