@@ -12,15 +12,6 @@ import (
 	"mudlark/sample"
 )
 
-// file is what is known of one of a name with so many bytes; found is it, of which so many are there.
-func file(name string, size int) api.Meta {
-	return api.Meta{Name: name, Kind: api.File, Size: size, Real: size}
-}
-
-func found(at, data, n int, m api.Meta) api.Found {
-	return api.Found{At: at, Data: data, Len: n, Partial: n < m.Size, Meta: m}
-}
-
 // header is the entry of one, suspect of a block that is only like one.
 func header(at, points int, kind byte, size int) api.Item {
 	return api.Item{At: at, Points: points, Header: true, Kind: kind, Size: size}
@@ -51,14 +42,14 @@ func lists(t *testing.T, name string, x api.Image, want ...api.Item) {
 // members holds a member against what it should be, tells none against why.
 func members(t *testing.T, name string, x api.Image, i int, want api.Found) {
 	t.Helper()
-	if f, e := Member(x, i); !reflect.DeepEqual(plain(f), plain(want)) || e != api.OK {
+	if f, e := Member(x, i); !sample.SameFound(f, want) || e != api.OK {
 		t.Errorf("%s: Member at %d = %+v, %d; want %+v", name, i, f, e, want)
 	}
 }
 
 func membersNone(t *testing.T, name string, x api.Image, i int, want api.Errno) {
 	t.Helper()
-	if f, e := Member(x, i); !reflect.DeepEqual(plain(f), api.Found{}) || e != want {
+	if f, e := Member(x, i); !sample.SameFound(f, api.Found{}) || e != want {
 		t.Errorf("%s: Member at %d = %+v, %d; want %d", name, i, f, e, want)
 	}
 }
@@ -66,36 +57,9 @@ func membersNone(t *testing.T, name string, x api.Image, i int, want api.Errno) 
 // all holds those of all headers against what they should be.
 func all(t *testing.T, name string, x api.Image, want ...api.Found) {
 	t.Helper()
-	if l := All(x); !slices.EqualFunc(l, want, same) {
+	if l := All(x); !slices.EqualFunc(l, want, sample.SameFound) {
 		t.Errorf("%s: All = %+v; want %+v", name, l, want)
 	}
-}
-
-func same(a, b api.Found) bool {
-	return reflect.DeepEqual(plain(a), plain(b))
-}
-
-// plain is f with lists that are nil where they are empty, as these are the same.
-func plain(f api.Found) api.Found {
-	if len(f.Meta.Parts) == 0 {
-		f.Meta.Parts = nil
-	}
-	if len(f.Meta.Extra) == 0 {
-		f.Meta.Extra = nil
-	}
-	return f
-}
-
-// ofSure is a block of so many points that is no header, as its sum is none: 5 or 6 of them.
-func ofSure(points int) []byte {
-	b := make([]byte, 512)
-	copy(b[148:], "x")
-	copy(b[257:], "ustar\x0000")
-	copy(b, "a")
-	if points == 6 {
-		copy(b[156:], "0")
-	}
-	return b
 }
 
 func TestList(t *testing.T) {
@@ -104,7 +68,7 @@ func TestList(t *testing.T) {
 		sample.Noughts(1),
 		sample.Records(api.Global, "k", "v"),
 		sample.Records(api.Local, "k", "v"), plainFile, sample.Some(512),
-		sample.Unsealed(plainFile), ofSure(6), ofSure(5),
+		sample.Unsealed(plainFile), sample.Like(6), sample.Like(5),
 		sample.Main(api.Dir, "d/", 0),
 		sample.Noughts(2),
 		sample.Main(api.File, "last", 1<<40),
@@ -113,14 +77,8 @@ func TestList(t *testing.T) {
 		header(1, 15, 'g', 6), header(3, 15, 'x', 6), header(5, 15, '0', 3),
 		suspect(7, 12), suspect(8, 6), header(10, 15, '5', 0), header(13, 15, '0', 1<<40))
 	all(t, "of all", x,
-		found(3, 6*512, 3, extra(file("a", 3), "k", "v")), found(5, 6*512, 3, file("a", 3)),
-		found(10, 11*512, 0, api.Meta{Name: "d/", Kind: api.Dir}), found(13, 14*512, 0, file("last", 1<<40)))
-}
-
-// extra is m with records of no field.
-func extra(m api.Meta, texts ...string) api.Meta {
-	m.Extra = sample.Recs(texts...)
-	return m
+		sample.Found(3, 6*512, 3, sample.With(sample.FileMeta("a", 3), "k", "v")), sample.Found(5, 6*512, 3, sample.FileMeta("a", 3)),
+		sample.Found(10, 11*512, 0, api.Meta{Name: "d/", Kind: api.Dir}), sample.Found(13, 14*512, 0, sample.FileMeta("last", 1<<40)))
 }
 
 func TestNothing(t *testing.T) {
@@ -130,7 +88,7 @@ func TestNothing(t *testing.T) {
 		"others":           sample.Image(sample.Some(5000)),
 		"bad":              sample.Spoilt(sample.Image(sample.Noughts(2)), 0, 1),
 		"no bytes, bad":    {Bad: []int{0, 1}},
-		"like a header":    sample.Image(ofSure(5)),
+		"like a header":    sample.Image(sample.Like(5)),
 		"none is whole":    sample.Image(sample.Main(api.File, "a", 0)[:511]),
 		"none is in place": sample.Image(sample.Some(1), sample.Main(api.File, "a", 0)),
 	} {
@@ -148,7 +106,7 @@ func TestEachKind(t *testing.T) {
 	// Of no kind, it is a File; but its byte is not known, and gives no point.
 	old := sample.Changed(sample.Main(api.File, "a", 9), 156, "\x00")
 	lists(t, "no kind", sample.Image(old), header(0, 14, api.File, 9))
-	all(t, "no kind", sample.Image(old), found(0, 512, 0, file("a", 9)))
+	all(t, "no kind", sample.Image(old), sample.Found(0, 512, 0, sample.FileMeta("a", 9)))
 	lists(t, "another kind", sample.Image(sample.Changed(old, 156, "N")), suspect(0, 14))
 	all(t, "another kind", sample.Image(sample.Changed(old, 156, "N")))
 }
@@ -180,23 +138,23 @@ func TestBadBlocks(t *testing.T) {
 	lists(t, "the last", sample.Spoilt(x, 4), whole[:2]...)
 	lists(t, "all, in no order", sample.Spoilt(x, 4, 0, 3))
 	// Bytes that were not read are there, as noughts.
-	members(t, "bytes", sample.Spoilt(x, 1, 2), 0, found(0, 512, 1000, file("a", 1000)))
+	members(t, "bytes", sample.Spoilt(x, 1, 2), 0, sample.Found(0, 512, 1000, sample.FileMeta("a", 1000)))
 	membersNone(t, "its header", sample.Spoilt(x, 0), 0, api.ErrBad)
-	all(t, "its header", sample.Spoilt(x, 0), found(4, 5*512, 1000, file("a", 1000)))
+	all(t, "its header", sample.Spoilt(x, 0), sample.Found(4, 5*512, 1000, sample.FileMeta("a", 1000)))
 }
 
 // Wherever an image ends, so many of a member's bytes are there.
 func TestPartial(t *testing.T) {
 	x := sample.Image(sample.Main(api.Dir, "d/", 0), sample.File("a", sample.Some(1000)))
 	for n := range 1025 {
-		members(t, "cut off", sample.Cut(x, n), 1, found(1, 1024, min(1024-n, 1000), file("a", 1000)))
+		members(t, "cut off", sample.Cut(x, n), 1, sample.Found(1, 1024, min(1024-n, 1000), sample.FileMeta("a", 1000)))
 	}
 	for n := 1025; n < 1536; n++ {
 		membersNone(t, "cut off in its header", sample.Cut(x, n), 1, api.ErrShort)
 	}
-	members(t, "all but one", sample.Cut(x, 25), 1, api.Found{At: 1, Data: 1024, Len: 999, Partial: true, Meta: file("a", 1000)})
-	members(t, "just all", sample.Cut(x, 24), 1, api.Found{At: 1, Data: 1024, Len: 1000, Meta: file("a", 1000)})
-	members(t, "none", sample.Cut(x, 1024), 1, api.Found{At: 1, Data: 1024, Partial: true, Meta: file("a", 1000)})
+	members(t, "all but one", sample.Cut(x, 25), 1, api.Found{At: 1, Data: 1024, Len: 999, Partial: true, Meta: sample.FileMeta("a", 1000)})
+	members(t, "just all", sample.Cut(x, 24), 1, api.Found{At: 1, Data: 1024, Len: 1000, Meta: sample.FileMeta("a", 1000)})
+	members(t, "none", sample.Cut(x, 1024), 1, api.Found{At: 1, Data: 1024, Partial: true, Meta: sample.FileMeta("a", 1000)})
 	members(t, "of none", x, 0, api.Found{Data: 512, Meta: api.Meta{Name: "d/", Kind: api.Dir}})
 	membersNone(t, "no block", sample.Cut(x, 1536), 1, api.ErrEnd)
 }
@@ -215,20 +173,20 @@ func TestEachHeaderOfAGroup(t *testing.T) {
 		return api.Meta{Name: name, Link: link, Kind: api.Soft, Uid: uid}
 	}
 	all(t, "a group", x,
-		found(2, 9*512, 0, soft(long, "to/"+long, 7)), found(4, 9*512, 0, soft(long, "to", 7)),
-		found(6, 9*512, 0, soft("short", "to", 7)), found(8, 9*512, 0, soft("short", "to", 0)))
+		sample.Found(2, 9*512, 0, soft(long, "to/"+long, 7)), sample.Found(4, 9*512, 0, soft(long, "to", 7)),
+		sample.Found(6, 9*512, 0, soft("short", "to", 7)), sample.Found(8, 9*512, 0, soft("short", "to", 0)))
 	membersNone(t, "a global", x, 0, api.ErrOrder)
 	membersNone(t, "a payload", x, 3, api.ErrSum)
 	// With its own name's block lost, what is behind is a member still.
 	all(t, "a group that is broken", sample.Spoilt(x, 5),
-		found(6, 9*512, 0, soft("short", "to", 7)), found(8, 9*512, 0, soft("short", "to", 0)))
+		sample.Found(6, 9*512, 0, soft("short", "to", 7)), sample.Found(8, 9*512, 0, soft("short", "to", 0)))
 }
 
 func TestMemberOfHoles(t *testing.T) {
 	m := api.Meta{Name: "s", Kind: api.File, Size: 7, Real: 50, Holes: true, Parts: sample.Parts(1, 2, 9, 5)}
 	x := sample.Image(sample.Holed(7, 50, true, sample.Parts(1, 2)...), sample.Further(0, sample.Parts(9, 5)...), sample.Filled(sample.Some(7)))
-	members(t, "holes", x, 0, found(0, 1024, 7, m))
-	members(t, "holes, cut off", sample.Cut(x, 509), 0, found(0, 1024, 3, m))
+	members(t, "holes", x, 0, sample.Found(0, 1024, 7, m))
+	members(t, "holes, cut off", sample.Cut(x, 509), 0, sample.Found(0, 1024, 3, m))
 	lists(t, "holes", x, header(0, 15, 'S', 7))
 	membersNone(t, "holes without their parts", sample.Spoilt(x, 1), 0, api.ErrBad)
 	all(t, "holes without their parts", sample.Spoilt(x, 1))
@@ -268,7 +226,7 @@ func TestErrors(t *testing.T) {
 // behind is what is found at the headers behind a broken one.
 func behind(b []byte) []api.Found {
 	if len(b) > 3*512 {
-		return []api.Found{found(2, 5*512, 0, extra(file("a", 3), "k", "v")), found(4, 5*512, 0, file("a", 3))}
+		return []api.Found{sample.Found(2, 5*512, 0, sample.With(sample.FileMeta("a", 3), "k", "v")), sample.Found(4, 5*512, 0, sample.FileMeta("a", 3))}
 	}
 	return nil
 }
@@ -279,14 +237,14 @@ func TestMembersInOthers(t *testing.T) {
 	x := sample.Image(sample.File("out", inner), sample.File("next", nil))
 	lists(t, "an archive in another", x, header(0, 15, '0', len(inner)), header(1, 15, '0', 600), header(6, 15, '0', 0))
 	all(t, "an archive in another", x,
-		found(0, 512, len(inner), file("out", len(inner))), found(1, 1024, 600, file("in", 600)), found(6, 7*512, 0, file("next", 0)))
+		sample.Found(0, 512, len(inner), sample.FileMeta("out", len(inner))), sample.Found(1, 1024, 600, sample.FileMeta("in", 600)), sample.Found(6, 7*512, 0, sample.FileMeta("next", 0)))
 }
 
 func TestNilIsEmpty(t *testing.T) {
 	b := sample.File("a", sample.Some(3))
 	for _, bad := range [][]int{nil, {}} {
 		lists(t, "nil and empty", sample.Spoilt(sample.Image(b), bad...), header(0, 15, '0', 3))
-		all(t, "nil and empty", sample.Spoilt(sample.Image(b), bad...), found(0, 512, 3, file("a", 3)))
+		all(t, "nil and empty", sample.Spoilt(sample.Image(b), bad...), sample.Found(0, 512, 3, sample.FileMeta("a", 3)))
 		x := api.Image{Bytes: []byte{}, Bad: bad}
 		lists(t, "empty", x)
 		all(t, "empty", x)
@@ -302,7 +260,7 @@ func TestWhatIsHandedInStays(t *testing.T) {
 	keep, keepBad := bytes.Clone(b), slices.Clone(bad)
 	x := api.Image{Bytes: b[:512+700], Bad: bad[:1]}
 	lists(t, "with others behind", x, header(0, 15, '0', 1000))
-	all(t, "with others behind", x, found(0, 512, 700, file("a", 1000)))
+	all(t, "with others behind", x, sample.Found(0, 512, 700, sample.FileMeta("a", 1000)))
 	x.Bytes = b[:len(b)-1]
 	lists(t, "with a byte behind", x, header(0, 15, '0', 1000))
 	membersNone(t, "with a byte behind", x, 3, api.ErrShort)
@@ -317,7 +275,7 @@ func TestWhatComesOutIsNew(t *testing.T) {
 		sample.Holed(3, 9, false, sample.Parts(0, 1, 5, 2)...), sample.Filled(sample.Some(3)),
 	)
 	m := api.Meta{Name: "s", Kind: api.File, Size: 3, Real: 9, Holes: true, Parts: sample.Parts(0, 1, 5, 2)}
-	want := []api.Found{found(0, 3*512, 3, extra(m, "a", "1", "b", "2")), found(2, 3*512, 3, m)}
+	want := []api.Found{sample.Found(0, 3*512, 3, sample.With(m, "a", "1", "b", "2")), sample.Found(2, 3*512, 3, m)}
 	items := []api.Item{header(0, 15, 'x', 12), header(2, 15, 'S', 3)}
 	firstList, firstAll, secondList, secondAll := List(x), All(x), List(x), All(x)
 	one, _ := Member(x, 0)
@@ -337,7 +295,7 @@ func TestWhatComesOutIsNew(t *testing.T) {
 	if !slices.Equal(secondList, items) {
 		t.Errorf("the list became %+v", secondList)
 	}
-	if !slices.EqualFunc(secondAll, want, same) {
+	if !slices.EqualFunc(secondAll, want, sample.SameFound) {
 		t.Errorf("the members became %+v", secondAll)
 	}
 }

@@ -84,7 +84,7 @@ func agrees(t *testing.T, x api.Image) {
 	if l, want := List(x), listByWords(x); !slices.Equal(l, want) {
 		t.Fatalf("List of %d bytes, bad %v = %+v; want %+v", len(x.Bytes), x.Bad, l, want)
 	}
-	if l, want := All(x), allByWords(x); !slices.EqualFunc(l, want, same) {
+	if l, want := All(x), allByWords(x); !slices.EqualFunc(l, want, sample.SameFound) {
 		t.Fatalf("All of %d bytes, bad %v = %+v; want %+v", len(x.Bytes), x.Bad, l, want)
 	}
 	for i := -1; i <= len(x.Bytes)/512+1; i++ {
@@ -93,7 +93,7 @@ func agrees(t *testing.T, x api.Image) {
 			t.Fatalf("At %d of %d bytes, bad %v = %+v, %v; want %+v", i, len(x.Bytes), x.Bad, item, ok, want)
 		}
 		f, e := Member(x, i)
-		if want, err := memberByWords(x, i); !same(f, want) || e != err {
+		if want, err := memberByWords(x, i); !sample.SameFound(f, want) || e != err {
 			t.Fatalf("Member at %d of %d bytes, bad %v = %+v, %d; want %+v, %d", i, len(x.Bytes), x.Bad, f, e, want, err)
 		}
 	}

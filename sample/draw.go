@@ -1,6 +1,12 @@
 package sample
 
-import "mudlark/api"
+import (
+	"slices"
+	"strconv"
+
+	"mudlark/api"
+	"mudlark/meta"
+)
 
 // Draw goes through a row of numbers that look drawn, and are the same each time.
 type Draw uint64
@@ -100,6 +106,87 @@ func Wreck(d *Draw) api.Image {
 	}
 	for range d.Below(3) * d.Below(2) {
 		x.Bad = append(x.Bad, d.Below(len(x.Bytes)/512+3)-1)
+	}
+	return x
+}
+
+// Layers is a member in an archive, and at which of its blocks each of its extensions begins, and the main header.
+type Layers struct {
+	Bytes  []byte
+	Starts []int
+	Header api.Header
+}
+
+// Layered is a link with a long name and records, whose extensions stand in an order that is drawn; of another number it has other names.
+func Layered(d *Draw, number int) Layers {
+	name := strconv.Itoa(number) + Letters(150)
+	m := api.Meta{Name: name, Link: "to/" + name, Kind: One(d, api.Soft, api.Hard), Uid: 5, Extra: Recs("k", "v"+name)}
+	h, l, e := meta.To(m)
+	if e != api.OK {
+		panic("no header of " + name)
+	}
+	extensions := [][]byte{Extension(api.Local, Lines(l)), Extension(api.LongName, m.Name+"\x00"), Extension(api.LongLink, m.Link+"\x00")}
+	whole := Layers{Header: h}
+	for len(extensions) > 0 {
+		at := d.Below(len(extensions))
+		whole.Starts = append(whole.Starts, len(whole.Bytes)/api.Block)
+		whole.Bytes = append(whole.Bytes, extensions[at]...)
+		extensions = slices.Delete(extensions, at, at+1)
+	}
+	whole.Starts = append(whole.Starts, len(whole.Bytes)/api.Block)
+	whole.Bytes = append(whole.Bytes, Laid(h)...)
+	return whole
+}
+
+// Shard is what may stand in an archive of which headers were lost, drawn: such an orphan and such a header often agree.
+func Shard(d *Draw) []byte {
+	names := []string{"a", "a", "a", Letters(100), Letters(101), "b"}
+	name := One(d, names...)
+	switch d.Below(8) {
+	case 0:
+		return Extension(api.Local, Lines(append(Facts(d), Recs("path", name)...)))
+	case 1:
+		return Records(api.Local, "linkpath", name, One(d, "k", "path"), One(d, "", "a"))
+	case 2:
+		return Extension(api.LongName, name+One(d, "", "\x00", "\x00a"))
+	case 3:
+		return Extension(api.LongLink, name)
+	case 4, 5, 6:
+		h := Named(One(d, api.File, api.File, api.Soft), front(name), One(d, 0, 600))
+		h.Link = front(One(d, names...))
+		if d.Below(6) == 0 {
+			h.Way, h.Prefix = api.Ustar, One(d, "", "d")
+		}
+		return Laid(h)
+	}
+	return Piece(d)
+}
+
+// front is as much of a name as a header has room for.
+func front(name string) string {
+	return name[:min(len(name), 100)]
+}
+
+// Shards is an image of such pieces, some of which were lost, as a whole or a block of them.
+func Shards(d *Draw) api.Image {
+	var x api.Image
+	for range 2 + d.Below(6) {
+		b, at := Shard(d), len(x.Bytes)/512
+		switch d.Below(5) {
+		case 0, 1:
+			for i := range len(b) / 512 {
+				x.Bad = append(x.Bad, at+i)
+			}
+		case 2:
+			x.Bad = append(x.Bad, at+d.Below(1+len(b)/512))
+		}
+		x.Bytes = append(x.Bytes, b...)
+	}
+	if d.Below(4) == 0 {
+		x = Cut(x, d.Below(1200)%len(x.Bytes))
+	}
+	if d.Below(4) == 0 {
+		slices.Reverse(x.Bad)
 	}
 	return x
 }

@@ -104,7 +104,7 @@ func Archived(pieces ...[]byte) []byte {
 	return append(slices.Concat(pieces...), Noughts(2)...)
 }
 
-// Same says whether members are alike, and so is what they have behind them; SameGroup whether groups are.
+// Same says whether members are alike, and so is what they have behind them; SameGroup whether groups are, SameFound whether members that were found.
 func Same(l, want []api.Member) bool {
 	return slices.EqualFunc(l, want, func(a, b api.Member) bool {
 		return meta.Same(a.Meta, b.Meta) && bytes.Equal(a.Data, b.Data)
@@ -114,6 +114,29 @@ func Same(l, want []api.Member) bool {
 func SameGroup(a, b api.Group) bool {
 	return a.At == b.At && a.Main == b.Main && a.Data == b.Data && a.Next == b.Next &&
 		slices.Equal(a.Global, b.Global) && meta.Same(a.Meta, b.Meta)
+}
+
+func SameFound(a, b api.Found) bool {
+	return a.At == b.At && a.Data == b.Data && a.Len == b.Len && a.Partial == b.Partial && meta.Same(a.Meta, b.Meta)
+}
+
+// FileMeta is what is known of a file of a name with so many bytes, SoftMeta of a link; With is m with records of no field.
+func FileMeta(name string, size int) api.Meta {
+	return api.Meta{Name: name, Kind: api.File, Size: size, Real: size}
+}
+
+func SoftMeta(name, link string) api.Meta {
+	return api.Meta{Name: name, Link: link, Kind: api.Soft}
+}
+
+func With(m api.Meta, texts ...string) api.Meta {
+	m.Extra = Recs(texts...)
+	return m
+}
+
+// Found is a member of which so many bytes are there.
+func Found(at, data, n int, m api.Meta) api.Found {
+	return api.Found{At: at, Data: data, Len: n, Partial: n < m.Size, Meta: m}
 }
 
 // Lines is the payload of records; they must have one.
@@ -165,6 +188,27 @@ func Unsealed(b []byte) []byte {
 	b = bytes.Clone(b)
 	b[0]++
 	return b
+}
+
+// Like is a block of so many points that is no header, as its sum is none: 5 or 6 of them.
+func Like(points int) []byte {
+	b := make([]byte, api.Block)
+	copy(b[148:], "x")
+	copy(b[257:], "ustar\x0000")
+	copy(b, "a")
+	if points == api.Sure {
+		b[156] = api.File
+	}
+	return b
+}
+
+// Torn is an extension, so many blocks that were lost, and what is behind them. What was lost would do, were it read.
+func Torn(ext []byte, lost int, behind ...[]byte) api.Image {
+	x := Image(ext, bytes.Repeat(Main(api.File, "a", 0), lost), slices.Concat(behind...))
+	for i := range lost {
+		x.Bad = append(x.Bad, len(ext)/api.Block+i)
+	}
+	return x
 }
 
 // Image is one of blocks, all of which can be read; Spoilt has some that can't, Cut lacks so many of its last bytes.

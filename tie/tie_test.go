@@ -3,7 +3,6 @@ package tie
 import (
 	"math"
 	"slices"
-	"strings"
 	"testing"
 
 	"mudlark/api"
@@ -52,24 +51,9 @@ func readsNone(t *testing.T, name string, x api.Image, i int, global []api.Rec) 
 	}
 }
 
-// torn is an extension, so many blocks that were lost, and what is behind them. What was lost would do, were it read.
-func torn(ext []byte, lost int, behind ...[]byte) api.Image {
-	main := string(sample.Main(api.File, "a", 0))
-	x := sample.Image(ext, []byte(strings.Repeat(main, lost)), slices.Concat(behind...))
-	for i := range lost {
-		x.Bad = append(x.Bad, len(ext)/512+i)
-	}
-	return x
-}
-
 // tied is the group of an orphan, with a main header, and the blocks of its bytes.
 func tied(at, main, blocks int, m api.Meta) api.Group {
 	return api.Group{At: at, Main: main, Data: 512 * (main + 1), Next: main + 1 + blocks, Meta: m}
-}
-
-// soft is what is known of a link.
-func soft(name, link string) api.Meta {
-	return api.Meta{Name: name, Link: link, Kind: api.Soft}
 }
 
 func TestOrphanOfEachKind(t *testing.T) {
@@ -135,16 +119,16 @@ func TestNext(t *testing.T) {
 				"main": main, "noughts": sample.Noughts(2), "others": sample.Some(700), "a byte": sample.Some(1), "an extension": ext,
 			} {
 				for lost := 1; lost < 5; lost++ {
-					x := torn(ext, lost, behind)
+					x := sample.Torn(ext, lost, behind)
 					follows(t, name, x, 0, next+lost)
 					follows(t, name+", behind others", sample.Spoilt(sample.Image(main, x.Bytes), moved(x.Bad, 1)...), 1, next+lost+1)
 				}
-				followsNone(t, name+", nothing lost", torn(ext, 0, behind), 0)
-				followsNone(t, name+", lost behind it", sample.Spoilt(torn(ext, 0, sample.Noughts(1), behind, main), next+1), 0)
+				followsNone(t, name+", nothing lost", sample.Torn(ext, 0, behind), 0)
+				followsNone(t, name+", lost behind it", sample.Spoilt(sample.Torn(ext, 0, sample.Noughts(1), behind, main), next+1), 0)
 			}
 			for lost := range 5 {
-				followsNone(t, "the end", torn(ext, lost), 0)
-				followsNone(t, "the end, in a block", sample.Cut(torn(ext, lost+1), 100), 0)
+				followsNone(t, "the end", sample.Torn(ext, lost), 0)
+				followsNone(t, "the end, in a block", sample.Cut(sample.Torn(ext, lost+1), 100), 0)
 			}
 		}
 	}
@@ -183,13 +167,13 @@ func TestNextOfBad(t *testing.T) {
 
 func TestNextOfAPayloadThatIsNone(t *testing.T) {
 	main := sample.Main(api.File, "a", 0)
-	followsNone(t, "too long", torn(sample.Main(api.LongName, "l", api.MaxExt+1), 2, main), 0)
-	followsNone(t, "beyond the end", torn(sample.Main(api.LongName, "l", 5000), 2, main), 0)
+	followsNone(t, "too long", sample.Torn(sample.Main(api.LongName, "l", api.MaxExt+1), 2, main), 0)
+	followsNone(t, "beyond the end", sample.Torn(sample.Main(api.LongName, "l", 5000), 2, main), 0)
 	// That it has no records is no matter of the blocks behind it.
-	follows(t, "no records", torn(sample.Extension(api.Local, "x"), 2, main), 0, 4)
-	follows(t, "no name", torn(sample.Extension(api.LongName, ""), 2, main), 0, 3)
+	follows(t, "no records", sample.Torn(sample.Extension(api.Local, "x"), 2, main), 0, 4)
+	follows(t, "no name", sample.Torn(sample.Extension(api.LongName, ""), 2, main), 0, 3)
 	// A header that was lost stands between, but its payload was not.
-	follows(t, "a payload", torn(sample.Extension(api.LongName, "a"), 1, sample.Some(512), main), 0, 3)
+	follows(t, "a payload", sample.Torn(sample.Extension(api.LongName, "a"), 1, sample.Some(512), main), 0, 3)
 	x := sample.Image(sample.Extension(api.LongName, "a"), sample.Extension(api.LongLink, "to"), main)
 	followsNone(t, "another one's payload", sample.Spoilt(x, 3), 0)
 	follows(t, "another one", sample.Spoilt(x, 2, 3), 0, 4)
@@ -197,7 +181,7 @@ func TestNextOfAPayloadThatIsNone(t *testing.T) {
 
 // A long stretch that was lost is one.
 func TestNextOfMany(t *testing.T) {
-	x := torn(sample.Extension(api.LongName, "a"), 20000, sample.Main(api.File, "a", 0))
+	x := sample.Torn(sample.Extension(api.LongName, "a"), 20000, sample.Main(api.File, "a", 0))
 	follows(t, "a long stretch", x, 0, 20002)
 	slices.Reverse(x.Bad)
 	reads(t, "a long stretch", x, 0, nil, tied(0, 20002, 0, api.Meta{Name: "a", Kind: api.File}))

@@ -3,7 +3,6 @@ package tie
 import (
 	"archive/tar"
 	"bytes"
-	"slices"
 	"strconv"
 	"strings"
 	"testing"
@@ -128,59 +127,11 @@ func readByWords(x api.Image, i int, global []api.Rec) (api.Group, bool) {
 	return g, true
 }
 
-// piece is what may stand in an archive of which headers were lost, drawn: such an orphan and such a header often agree.
-func piece(d *sample.Draw) []byte {
-	names := []string{"a", "a", "a", sample.Letters(100), sample.Letters(101), "b"}
-	name := sample.One(d, names...)
-	switch d.Below(8) {
-	case 0:
-		return sample.Extension(api.Local, sample.Lines(append(sample.Facts(d), sample.Recs("path", name)...)))
-	case 1:
-		return sample.Records(api.Local, "linkpath", name, sample.One(d, "k", "path"), sample.One(d, "", "a"))
-	case 2:
-		return sample.Extension(api.LongName, name+sample.One(d, "", "\x00", "\x00a"))
-	case 3:
-		return sample.Extension(api.LongLink, name)
-	case 4, 5, 6:
-		h := sample.Named(sample.One(d, api.File, api.File, api.Soft), name[:min(len(name), 100)], sample.One(d, 0, 600))
-		h.Link = frontByWords(sample.One(d, names...))
-		if d.Below(6) == 0 {
-			h.Way, h.Prefix = api.Ustar, sample.One(d, "", "d")
-		}
-		return sample.Laid(h)
-	}
-	return sample.Piece(d)
-}
-
-// wreck is an image of such pieces, some of which were lost, as a whole or a block of them.
-func wreck(d *sample.Draw) api.Image {
-	var x api.Image
-	for range 2 + d.Below(6) {
-		b, at := piece(d), len(x.Bytes)/512
-		switch d.Below(5) {
-		case 0, 1:
-			for i := range len(b) / 512 {
-				x.Bad = append(x.Bad, at+i)
-			}
-		case 2:
-			x.Bad = append(x.Bad, at+d.Below(1+len(b)/512))
-		}
-		x.Bytes = append(x.Bytes, b...)
-	}
-	if d.Below(4) == 0 {
-		x = sample.Cut(x, d.Below(1200)%len(x.Bytes))
-	}
-	if d.Below(4) == 0 {
-		slices.Reverse(x.Bad)
-	}
-	return x
-}
-
 func TestAnythingByWords(t *testing.T) {
 	d := sample.Draw(16)
 	told := map[string]int{}
 	for range 20000 {
-		x := wreck(&d)
+		x := sample.Shards(&d)
 		for i := -1; i <= len(x.Bytes)/512+1; i++ {
 			orphan, wantOrphan := Orphan(x, i), orphanByWords(x, i)
 			k, isNext := Next(x, i)
@@ -233,64 +184,35 @@ func TestAgreesByWords(t *testing.T) {
 	}
 }
 
-// laid is a member in an archive, and at which of its blocks each of its extensions begins, and the main header.
-type laid struct {
-	bytes  []byte
-	starts []int
-	header api.Header
-}
-
-// layered is a link with a long name and records, whose extensions stand in an order that is drawn.
-func layered(d *sample.Draw, number int) laid {
-	name := strconv.Itoa(number) + sample.Letters(150)
-	m := api.Meta{Name: name, Link: "to/" + name, Kind: sample.One(d, api.Soft, api.Hard), Uid: 5, Extra: sample.Recs("k", "v"+name)}
-	h, l, e := meta.To(m)
-	if e != api.OK {
-		panic("no header of " + name)
-	}
-	extensions := [][]byte{sample.Extension(api.Local, sample.Lines(l)), sample.Extension(api.LongName, m.Name+"\x00"), sample.Extension(api.LongLink, m.Link+"\x00")}
-	var whole laid
-	for len(extensions) > 0 {
-		at := d.Below(len(extensions))
-		whole.starts = append(whole.starts, len(whole.bytes)/512)
-		whole.bytes = append(whole.bytes, extensions[at]...)
-		extensions = slices.Delete(extensions, at, at+1)
-	}
-	whole.starts = append(whole.starts, len(whole.bytes)/512)
-	whole.bytes = append(whole.bytes, sample.Laid(h)...)
-	whole.header = h
-	return whole
-}
-
 // Of a group whose first extension is there, and its main header, what these tell is told.
 func TestWhatIsLeftIsTied(t *testing.T) {
 	d := sample.Draw(5)
 	for n := range 1000 {
-		one, next := layered(&d, n), layered(&d, n+1)
+		one, next := sample.Layered(&d, n), sample.Layered(&d, n+1)
 		ahead := sample.Noughts(d.Below(3))
-		x := sample.Image(ahead, one.bytes, next.bytes)
-		at, main := len(ahead)/512, len(ahead)/512+one.starts[3]
-		for i := at + one.starts[1]; i < main; i++ {
+		x := sample.Image(ahead, one.Bytes, next.Bytes)
+		at, main := len(ahead)/512, len(ahead)/512+one.Starts[3]
+		for i := at + one.Starts[1]; i < main; i++ {
 			x.Bad = append(x.Bad, i)
 		}
-		m, e := meta.From(one.header, ownByWords(x, at), nil, nil, nil)
+		m, e := meta.From(one.Header, ownByWords(x, at), nil, nil, nil)
 		if e != api.OK {
-			t.Fatalf("no member of %+v", one.header)
+			t.Fatalf("no member of %+v", one.Header)
 		}
 		orphans(t, "what is left", x, at)
 		follows(t, "what is left", x, at, main)
 		reads(t, "what is left", x, at, nil, tied(at, main, 0, m))
 		// Nor is it lost if nothing but the one in the middle is.
-		x.Bad = x.Bad[:one.starts[2]-one.starts[1]]
+		x.Bad = x.Bad[:one.Starts[2]-one.Starts[1]]
 		orphans(t, "what is left", x, at)
-		m, e = meta.From(one.header, pax.Merge(ownByWords(x, at), ownByWords(x, at+one.starts[2])), nil, nil, nil)
+		m, e = meta.From(one.Header, pax.Merge(ownByWords(x, at), ownByWords(x, at+one.Starts[2])), nil, nil, nil)
 		if e != api.OK {
-			t.Fatalf("no member of %+v", one.header)
+			t.Fatalf("no member of %+v", one.Header)
 		}
 		reads(t, "all but the middle", x, at, nil, tied(at, main, 0, m))
 		// Without its main header it is not tied to the next member, whose name is another one.
 		followsNone(t, "its main header is lost", sample.Spoilt(x, main), at)
-		readsNone(t, "its main header is lost", sample.Spoilt(x, main), at+one.starts[2], nil)
+		readsNone(t, "its main header is lost", sample.Spoilt(x, main), at+one.Starts[2], nil)
 	}
 }
 
@@ -302,7 +224,7 @@ func TestWhicheverAreLost(t *testing.T) {
 		var x api.Image
 		owner := map[int]int{}
 		for n := range 1 + d.Below(4) {
-			b := layered(&d, n).bytes
+			b := sample.Layered(&d, n).Bytes
 			for i := range len(b) / 512 {
 				owner[len(x.Bytes)/512+i] = n
 				// What was lost is often a row of blocks.

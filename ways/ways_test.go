@@ -39,6 +39,7 @@ var layers = []struct {
 	{"score", []string{"api", "num", "str", "sum", "head"}, []string{"array", "closure", "function-field"}},
 	{"index", []string{"api", "medium", "head", "score", "group"}, []string{"range-function"}},
 	{"tie", []string{"api", "str", "pax", "medium", "head", "group"}, []string{"fallthrough", "closure"}},
+	{"chain", []string{"api", "sum", "pax", "medium", "score", "group", "tie"}, []string{"method-expression", "array"}},
 }
 
 // library is what a layer may import beside the project's packages.
@@ -183,10 +184,16 @@ func (c *code) compared(n *ast.BinaryExpr) string {
 	return "compared"
 }
 
-// selected tells a method with what it is asked of from a field, and from a name of another package.
+// selected tells a method with what it is asked of from one without, from a field, and from a name of another package.
 func (c *code) selected(n *ast.SelectorExpr) string {
-	if s := c.info.Selections[n]; s != nil && s.Kind() == types.MethodVal {
+	s := c.info.Selections[n]
+	switch {
+	case s == nil:
+		return "selected"
+	case s.Kind() == types.MethodVal:
 		return "method-value"
+	case s.Kind() == types.MethodExpr:
+		return "method-expression"
 	}
 	return "selected"
 }
