@@ -103,26 +103,11 @@ func walkByWords(x api.Image) ([]api.Found, []int) {
 	return l, classes
 }
 
-// wreck is an image of pieces, of which some were lost, and some have another byte.
-func wreck(d *sample.Draw) api.Image {
-	x := sample.Wreck(d)
-	if d.Below(2) == 0 {
-		x = sample.Shards(d)
-	}
-	if d.Below(3) == 0 {
-		x = sample.Image(x.Bytes, sample.Noughts(d.Below(4)), sample.Some(d.Below(600)))
-	}
-	if at := d.Below(len(x.Bytes)); d.Below(3) == 0 {
-		x.Bytes[at] ^= byte(1 + d.Below(255))
-	}
-	return x
-}
-
 func TestAnythingByWords(t *testing.T) {
 	d := sample.Draw(17)
 	told, torn, partial := map[int]int{}, 0, 0
 	for range 20000 {
-		x := wreck(&d)
+		x := sample.Anything(&d)
 		l, classes := Walk(x)
 		want, wantClasses := walkByWords(x)
 		if !slices.EqualFunc(l, want, sample.SameFound) || !slices.Equal(classes, wantClasses) {
@@ -161,7 +146,7 @@ func TestAnythingByWords(t *testing.T) {
 func TestEveryBlockHasOneClass(t *testing.T) {
 	d := sample.Draw(2)
 	for range 8000 {
-		x := wreck(&d)
+		x := sample.Anything(&d)
 		l, classes := Walk(x)
 		if len(classes) != medium.Count(x) {
 			t.Fatalf("%d classes of %d blocks", len(classes), medium.Count(x))
@@ -195,7 +180,7 @@ func TestEveryBlockHasOneClass(t *testing.T) {
 func TestWhateverPieces(t *testing.T) {
 	d := sample.Draw(6)
 	for range 500 {
-		x := wreck(&d)
+		x := sample.Anything(&d)
 		l, classes := Walk(medium.Make(x.Bytes, x.Bad))
 		m := medium.New(x.Bytes, x.Bad, -1, 1+d.Below(700), d.Below(5000), d.Below(3))
 		again, againClasses := Walk(medium.Gather(m))

@@ -190,3 +190,18 @@ func Shards(d *Draw) api.Image {
 	}
 	return x
 }
+
+// Anything is an image of either's pieces, with others behind and another byte somewhere, as it is drawn.
+func Anything(d *Draw) api.Image {
+	x := Wreck(d)
+	if d.Below(2) == 0 {
+		x = Shards(d)
+	}
+	if d.Below(3) == 0 {
+		x = Image(x.Bytes, Noughts(d.Below(4)), Some(d.Below(600)))
+	}
+	if at := d.Below(len(x.Bytes)); d.Below(3) == 0 {
+		x.Bytes[at] ^= byte(1 + d.Below(255))
+	}
+	return x
+}

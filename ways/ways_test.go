@@ -40,6 +40,7 @@ var layers = []struct {
 	{"index", []string{"api", "medium", "head", "score", "group"}, []string{"range-function"}},
 	{"tie", []string{"api", "str", "pax", "medium", "head", "group"}, []string{"fallthrough", "closure"}},
 	{"chain", []string{"api", "sum", "pax", "medium", "score", "group", "tie"}, []string{"method-expression", "array"}},
+	{"chart", []string{"api", "chain"}, []string{"range-function", "label", "closure"}},
 }
 
 // library is what a layer may import beside the project's packages.
