@@ -4,7 +4,6 @@ import (
 	"archive/tar"
 	"bytes"
 	"slices"
-	"strconv"
 	"testing"
 	"time"
 
@@ -225,78 +224,16 @@ func findsAll(t *testing.T, b []byte, want []api.Member) {
 	}
 }
 
-// laid is a member in an archive whose blocks may be lost.
-type laid struct {
-	found  api.Found
-	behind int // its headers
-}
-
-// fleet is an archive of members of other names each, with what is for all between; where its members are, whatever is there of what is for all, and where that is.
-func fleet(d *sample.Draw) (b []byte, members []laid, globals map[int]api.Rec) {
-	globals = map[int]api.Rec{}
-	for n := range 1 + d.Below(6) {
-		at := len(b) / 512
-		switch d.Below(6) {
-		case 0:
-			r := api.Rec{Key: "for.all" + strconv.Itoa(d.Below(2)), Value: strconv.Itoa(n)}
-			globals[at] = r
-			b = append(b, sample.Records(api.Global, r.Key, r.Value)...)
-		case 1:
-			one := sample.Layered(d, n)
-			g, _ := group.Read(sample.Image(one.Bytes), 0, nil, nil)
-			b = append(b, one.Bytes...)
-			members = append(members, laid{sample.Found(at, len(b), 0, g.Meta), len(b) / 512})
-		default:
-			m := sample.Member(d)
-			m.Meta.Name = (strconv.Itoa(n) + m.Meta.Name)[:min(len(m.Meta.Name)+1, api.MaxPath)]
-			if m.Meta.Link != "" {
-				m.Meta.Link = (strconv.Itoa(n) + m.Meta.Link)[:min(len(m.Meta.Link)+1, api.MaxPath)]
-			}
-			b = append(b, sample.Written(m)...)
-			data := len(b) - len(sample.Filled(m.Data))
-			members = append(members, laid{sample.Found(at, data, m.Meta.Size, m.Meta), data / 512})
-		}
-	}
-	return sample.Archived(b), members, globals
-}
-
-// left is what should be found of a member where some of an image was lost; false: one of its headers was.
-func (one laid) left(x api.Image, globals map[int]api.Rec) (api.Found, bool) {
-	f := one.found
-	for i := f.At; i < one.behind; i++ {
-		if medium.Bad(x, i) || len(medium.Block(x, i)) < 512 {
-			return api.Found{}, false
-		}
-	}
-	var l []api.Rec
-	for i := range f.At {
-		// A record for all is two blocks.
-		if r, ok := globals[i]; ok && !medium.Bad(x, i) && !medium.Bad(x, i+1) {
-			l = append(l, r)
-		}
-	}
-	f.Meta.Extra = pax.Merge(l, f.Meta.Extra)
-	f.Len = min(f.Meta.Size, len(x.Bytes)-f.Data)
-	f.Partial = f.Len < f.Meta.Size
-	return f, true
-}
-
 // Whichever blocks are lost, and wherever the image ends: a member whose headers are all there is found, in order, as it is.
 func TestSurvivors(t *testing.T) {
 	d := sample.Draw(11)
 	whole, others := 0, 0
 	for range 9000 {
-		b, members, globals := fleet(&d)
-		x := sample.Cut(sample.Image(b), d.Below(2)*d.Below(len(b)))
-		for i := range len(b) / 512 {
-			// What was lost is often a row of blocks.
-			if slices.Contains(x.Bad, i-1) && d.Below(2) == 0 || d.Below(9) == 0 {
-				x.Bad = append(x.Bad, i)
-			}
-		}
+		fleet := sample.NewFleet(&d)
+		x := fleet.Damaged(&d)
 		var want []api.Found
-		for _, one := range members {
-			if f, ok := one.left(x, globals); ok {
+		for _, one := range fleet.Members {
+			if f, ok := fleet.Left(one, x); ok {
 				want = append(want, f)
 			}
 		}
@@ -318,17 +255,17 @@ func TestSurvivors(t *testing.T) {
 func TestEachBlockLost(t *testing.T) {
 	d := sample.Draw(13)
 	for range 300 {
-		b, members, globals := fleet(&d)
-		for bad := range len(b) / 512 {
-			x := sample.Spoilt(sample.Image(b), bad)
+		fleet := sample.NewFleet(&d)
+		for bad := range len(fleet.Bytes) / 512 {
+			x := sample.Spoilt(sample.Image(fleet.Bytes), bad)
 			l, classes := Walk(x)
-			for _, one := range members {
-				f, ok := one.left(x, globals)
+			for _, one := range fleet.Members {
+				f, ok := fleet.Left(one, x)
 				if ok && !slices.ContainsFunc(l, func(other api.Found) bool { return sample.SameFound(f, other) }) {
-					t.Fatalf("block %d is lost, and so is %+v", bad, one.found)
+					t.Fatalf("block %d is lost, and so is %+v", bad, one.Found)
 				}
-				if isItsOwn := bad >= one.found.At && bad < one.behind; isItsOwn == ok {
-					t.Fatalf("block %d is lost of %+v: %v", bad, one.found, ok)
+				if isItsOwn := bad >= one.Found.At && bad < one.Behind; isItsOwn == ok {
+					t.Fatalf("block %d is lost of %+v: %v", bad, one.Found, ok)
 				}
 			}
 			if classes[bad] != api.OfBad {

@@ -193,28 +193,11 @@ func TestMemberOfHoles(t *testing.T) {
 }
 
 func TestErrors(t *testing.T) {
-	main := sample.Main(api.File, "a", 3)
-	for name, c := range map[string]struct {
-		b []byte
-		e api.Errno
-	}{
-		"no block":           {nil, api.ErrEnd},
-		"part of one":        {main[:511], api.ErrShort},
-		"noughts":            {sample.Noughts(1), api.ErrSum},
-		"a suspect":          {sample.Unsealed(main), api.ErrSum},
-		"another kind":       {sample.Changed(main, 156, "N"), api.ErrKind},
-		"no size":            {sample.Changed(main, 124, "x"), api.ErrField},
-		"no name":            {sample.Changed(main, 0, "\x00"), api.ErrText},
-		"no records":         {sample.Extension(api.Local, "x"), api.ErrRecs},
-		"a global":           {sample.Records(api.Global, "k", "v"), api.ErrOrder},
-		"two of a kind":      {slices.Concat(sample.Records(api.Local, "k", "v"), sample.Records(api.Local, "k", "v"), main), api.ErrOrder},
-		"nothing behind":     {sample.Records(api.Local, "k", "v"), api.ErrEnd},
-		"a payload too long": {sample.Main(api.LongName, "l", 1<<20+1), api.ErrLong},
-	} {
-		membersNone(t, name, sample.Image(c.b), 0, c.e)
-		all(t, name, sample.Image(c.b), behind(c.b)...)
+	for name, c := range sample.NoGroups() {
+		membersNone(t, name, sample.Image(c.Bytes), 0, c.Errno)
+		all(t, name, sample.Image(c.Bytes), behind(c.Bytes)...)
 	}
-	x := sample.Image(main)
+	x := sample.Image(sample.Main(api.File, "a", 3))
 	for _, i := range []int{-1, 1, 2, math.MaxInt, math.MinInt, math.MaxInt / 512, math.MinInt / 512} {
 		membersNone(t, "no such block", x, i, api.ErrEnd)
 		if item, ok := At(x, i); ok || item != (api.Item{}) {

@@ -138,44 +138,12 @@ func TestAnythingByWords(t *testing.T) {
 	}
 }
 
-// around is what may lie beside a member: noughts, other bytes, pieces of archives.
-func around(d *sample.Draw) []byte {
-	switch d.Below(4) {
-	case 0:
-		return sample.Noughts(d.Below(4))
-	case 1:
-		b := make([]byte, 512*d.Below(4))
-		for i := range b {
-			b[i] = byte(d.Below(256))
-		}
-		return b
-	}
-	return sample.Piece(d)
-}
-
-// broken is b with other bytes here and there, or b.
-func broken(d *sample.Draw, b []byte) []byte {
-	for range d.Below(3) * d.Below(9) {
-		if len(b) > 0 {
-			b[d.Below(len(b))] ^= byte(1 + d.Below(255))
-		}
-	}
-	return b
-}
-
 // A member whose own blocks are as they were is in the index, and is told there, whatever is around it.
 func TestWhateverIsAround(t *testing.T) {
 	d := sample.Draw(3)
 	for range 3000 {
 		m := sample.Member(&d)
-		ahead, own, behind := broken(&d, around(&d)), sample.Written(m), broken(&d, around(&d))
-		x := sample.Image(ahead, own, behind)
-		at, next := len(ahead)/512, (len(ahead)+len(own))/512
-		for i := range len(x.Bytes) / 512 {
-			if (i < at || i >= next) && d.Below(4) == 0 {
-				x.Bad = append(x.Bad, i)
-			}
-		}
+		x, at := sample.Amid(&d, sample.Written(m))
 		item, ok := At(x, at)
 		if !ok || !item.Header || !slices.Contains(List(x), item) {
 			t.Fatalf("%+v is not in the list: %+v", m.Meta, item)

@@ -110,11 +110,12 @@ func Wreck(d *Draw) api.Image {
 	return x
 }
 
-// Layers is a member in an archive, and at which of its blocks each of its extensions begins, and the main header.
+// Layers is a member in an archive, what is known of it, and at which of its blocks each of its extensions begins, and the main header.
 type Layers struct {
 	Bytes  []byte
 	Starts []int
 	Header api.Header
+	Meta   api.Meta
 }
 
 // Layered is a link with a long name and records, whose extensions stand in an order that is drawn; of another number it has other names.
@@ -126,7 +127,7 @@ func Layered(d *Draw, number int) Layers {
 		panic("no header of " + name)
 	}
 	extensions := [][]byte{Extension(api.Local, Lines(l)), Extension(api.LongName, m.Name+"\x00"), Extension(api.LongLink, m.Link+"\x00")}
-	whole := Layers{Header: h}
+	whole := Layers{Header: h, Meta: m}
 	for len(extensions) > 0 {
 		at := d.Below(len(extensions))
 		whole.Starts = append(whole.Starts, len(whole.Bytes)/api.Block)
@@ -204,4 +205,39 @@ func Anything(d *Draw) api.Image {
 		x.Bytes[at] ^= byte(1 + d.Below(255))
 	}
 	return x
+}
+
+// around is what may lie beside a member: noughts, other bytes, pieces of archives, with other bytes here and there.
+func around(d *Draw) []byte {
+	var b []byte
+	switch d.Below(4) {
+	case 0:
+		b = Noughts(d.Below(4))
+	case 1:
+		b = make([]byte, api.Block*d.Below(4))
+		for i := range b {
+			b[i] = byte(d.Below(256))
+		}
+	default:
+		b = Piece(d)
+	}
+	for range d.Below(3) * d.Below(9) {
+		if len(b) > 0 {
+			b[d.Below(len(b))] ^= byte(1 + d.Below(255))
+		}
+	}
+	return b
+}
+
+// Amid is an image in which a member's own blocks lie as they were, and at which of them, with things around, some of which are bad.
+func Amid(d *Draw, own []byte) (api.Image, int) {
+	ahead, behind := around(d), around(d)
+	x := Image(ahead, own, behind)
+	at, next := len(ahead)/api.Block, (len(ahead)+len(own))/api.Block
+	for i := range len(x.Bytes) / api.Block {
+		if (i < at || i >= next) && d.Below(4) == 0 {
+			x.Bad = append(x.Bad, i)
+		}
+	}
+	return x, at
 }

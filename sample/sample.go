@@ -86,7 +86,7 @@ func File(name string, data []byte) []byte {
 	return append(Main(api.File, name, len(data)), Filled(data)...)
 }
 
-// Written is a member as a writer lays it; it must be one that may be.
+// Written is a member as the writer lays it, byte by byte; it must be one that may be.
 func Written(m api.Member) []byte {
 	h, l, e := meta.To(m.Meta)
 	if e != api.OK {
@@ -94,7 +94,8 @@ func Written(m api.Member) []byte {
 	}
 	var b []byte
 	if len(l) > 0 {
-		b = Extension(api.Local, Lines(l))
+		payload := []byte(Lines(l))
+		b = append(Laid(api.Header{Name: "pax", Mode: 0o644, Size: len(payload), Kind: api.Local, Way: api.Ustar}), Filled(payload)...)
 	}
 	return slices.Concat(b, Laid(h), Filled(m.Data))
 }
@@ -188,6 +189,30 @@ func Unsealed(b []byte) []byte {
 	b = bytes.Clone(b)
 	b[0]++
 	return b
+}
+
+// NoGroup is blocks at the first of which no group begins, and why; NoGroups are some, by what they are.
+type NoGroup struct {
+	Bytes []byte
+	Errno api.Errno
+}
+
+func NoGroups() map[string]NoGroup {
+	main, ext := Main(api.File, "a", 3), Records(api.Local, "k", "v")
+	return map[string]NoGroup{
+		"no block":           {nil, api.ErrEnd},
+		"part of one":        {main[:511], api.ErrShort},
+		"noughts":            {Noughts(1), api.ErrSum},
+		"a suspect":          {Unsealed(main), api.ErrSum},
+		"another kind":       {Changed(main, 156, "N"), api.ErrKind},
+		"no size":            {Changed(main, 124, "x"), api.ErrField},
+		"no name":            {Changed(main, 0, "\x00"), api.ErrText},
+		"no records":         {Extension(api.Local, "x"), api.ErrRecs},
+		"a global":           {Records(api.Global, "k", "v"), api.ErrOrder},
+		"two of a kind":      {slices.Concat(ext, ext, main), api.ErrOrder},
+		"nothing behind":     {ext, api.ErrEnd},
+		"a payload too long": {Main(api.LongName, "l", api.MaxExt+1), api.ErrLong},
+	}
 }
 
 // Like is a block of so many points that is no header, as its sum is none: 5 or 6 of them.

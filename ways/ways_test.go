@@ -41,6 +41,7 @@ var layers = []struct {
 	{"tie", []string{"api", "str", "pax", "medium", "head", "group"}, []string{"fallthrough", "closure"}},
 	{"chain", []string{"api", "sum", "pax", "medium", "score", "group", "tie"}, []string{"method-expression", "array"}},
 	{"chart", []string{"api", "chain"}, []string{"range-function", "label", "closure"}},
+	{"rebuild", []string{"api", "sink", "pax", "sparse", "meta", "write", "index", "chain"}, []string{"clone"}},
 }
 
 // library is what a layer may import beside the project's packages.
